@@ -1,0 +1,1 @@
+"""Clashsize: how many linear rules must be looked at together."""

@@ -1,0 +1,99 @@
+"""Knots of a book: the least sets of kinds that can clash, with their weights."""
+
+from clashsize.kinds import check_book, check_number, is_integers
+from clashsize.tables import common_divisor, inner, rank_of
+
+
+def knots(book):
+    """The ascending list of all knots."""
+    check_book(book)
+    return balances(book, list(range(len(book[0]))))
+
+
+def balances(kinds, unknowns):
+    """The ascending list of all least weights with which kinds add up to 0 at these unknowns.
+
+    Each is a list of tuples (number, weight), in the form of a knot.
+    """
+    count = len(kinds)
+    rays = [[int(one == two) for two in range(count)] for one in range(count)]
+    for unknown in unknowns:
+        rays = _balanced(rays, [kind[unknown] for kind in kinds])
+    return sorted([[(at, weight) for at, weight in enumerate(ray) if weight > 0] for ray in rays])
+
+
+def _balanced(rays, column):
+    """The least weights among all sums of rays that add up to 0 with the column."""
+    totals = [inner(ray, column) for ray in rays]
+    masks = [_mask(ray) for ray in rays]
+    out = [ray for ray, total in zip(rays, totals) if total == 0]
+    for one, above in enumerate(totals):
+        for two, below in enumerate(totals):
+            if above > 0 > below and _are_neighbours(masks, masks[one] | masks[two]):
+                out.append(_joined(rays[one], -below, rays[two], above))
+    return out
+
+
+def _mask(ray):
+    """An integer with one bit for each kind that has a weight."""
+    return sum([1 << at for at, weight in enumerate(ray) if weight > 0])
+
+
+def _are_neighbours(masks, both):
+    """Whether no third ray has kinds of these two alone.
+
+    Only the sums of such two are least: any other sum has the kinds of a third one.
+    """
+    return len([mask for mask in masks if mask | both == both]) == 2
+
+
+def _joined(ray, factor, other, other_factor):
+    """The sum of two rays with these factors, without a common divisor."""
+    weights = [factor * one + other_factor * two for one, two in zip(ray, other)]
+    common = common_divisor(weights)
+    return [weight // common for weight in weights]
+
+
+def knot_numbers(book):
+    """The numbers of knots of the sizes from 2 to the number of unknowns and 1."""
+    sizes = [len(knot) for knot in knots(book)]
+    return [sizes.count(size) for size in range(2, len(book[0]) + 2)]
+
+
+def clash_size(book):
+    """The greatest size of a knot, 0 if there is none."""
+    return max([len(knot) for knot in knots(book)], default=0)
+
+
+def is_knot(book, value):
+    """Whether any value is a knot of the book."""
+    check_book(book)
+    if type(value) != list or not all([_is_weighted(book, item) for item in value]):
+        return False
+    numbers = [item[0] for item in value]
+    weights = [item[1] for item in value]
+    if numbers != sorted(set(numbers)) or common_divisor(weights) != 1:
+        return False
+    kinds = [book[number] for number in numbers]
+    # Positive weights are the only ones of their kinds if just one kind depends on the others.
+    return rank_of(kinds) == len(kinds) - 1 and not any(
+        [inner(weights, column) for column in zip(*kinds)])
+
+
+def _is_weighted(book, value):
+    """Whether any value is a tuple of the number of a kind and a positive integer."""
+    if not is_integers(value) or len(value) != 2:
+        return False
+    return 0 <= value[0] < len(book) and value[1] > 0
+
+
+def greatest_knot(book):
+    """The least of the knots with the greatest size; None if there is none."""
+    return max(knots(book), key=len, default=None)
+
+
+def knots_with(book, number):
+    """The ascending list of the knots that have the kind with this number."""
+    check_book(book)
+    check_number(number, 0, len(book) - 1)
+    return [knot for knot in knots(book) if number in [item[0] for item in knot]]

@@ -1,0 +1,167 @@
+"""Promises 2 and 3 over all functions of kinds.py and knots.py: arguments, results, and which error comes when."""
+
+import copy
+import unittest
+
+from clashsize import errors, kinds, knots
+
+from samples import BOXES2, LINE, ODD_VALUES, THREE, TILTED
+
+POINT = ((1, 2), (-1, 3))
+WORLD = [(5, 1), None, (1, 2)]
+RULES = [(0, (5, 1)), (0, (3, 1)), (2, (1, 2))]
+KNOT = [(0, 1), (1, 1), (2, 1)]
+
+# Each function with arguments that it takes, in the order of its signature.
+CALLS = [
+    (kinds.is_kind, {"value": (1, 0)}),
+    (kinds.is_book, {"value": THREE}),
+    (kinds.is_fraction, {"value": (1, 2)}),
+    (kinds.is_rules, {"book": THREE, "value": RULES}),
+    (kinds.is_world, {"book": THREE, "value": WORLD}),
+    (kinds.is_point, {"book": THREE, "value": POINT}),
+    (kinds.product, {"book": THREE, "numbers": (2, 5), "point": POINT}),
+    (kinds.obeys, {"book": THREE, "rules": RULES, "point": POINT}),
+    (kinds.is_in, {"book": THREE, "world": WORLD, "point": POINT}),
+    (kinds.rank, {"book": THREE}),
+    (kinds.world_of, {"book": THREE, "rules": RULES}),
+    (kinds.opposites, {"book": THREE}),
+    (kinds.mixed, {"book": THREE, "matrix": ((1, 1), (0, 1))}),
+    (kinds.beside, {"book": THREE, "other_book": LINE}),
+    (knots.knots, {"book": THREE}),
+    (knots.knot_numbers, {"book": THREE}),
+    (knots.clash_size, {"book": THREE}),
+    (knots.is_knot, {"book": THREE, "value": KNOT}),
+    (knots.greatest_knot, {"book": THREE}),
+    (knots.knots_with, {"book": THREE, "number": 1}),
+]
+
+ERRORS = {
+    "book": errors.InvalidBook, "other_book": errors.InvalidBook, "numbers": errors.InvalidNumbers,
+    "point": errors.InvalidPoint, "world": errors.InvalidWorld, "rules": errors.InvalidRules,
+    "matrix": errors.InvalidMatrix, "number": errors.InvalidNumber,
+}
+
+
+def lists_in(value):
+    """The lists in a value, itself included."""
+    found = [value] if isinstance(value, list) else []
+    if isinstance(value, (list, tuple)):
+        for item in value:
+            found = found + lists_in(item)
+    return found
+
+
+class Arguments(unittest.TestCase):
+    def test_by_name_as_by_position(self):
+        for call, given in CALLS:
+            answer = call(*given.values())
+            self.assertEqual(call(**given), answer, call)
+            backwards = dict(reversed(list(given.items())))
+            self.assertEqual(call(**backwards), answer, call)
+
+    def test_arguments_are_the_same_behind_the_call(self):
+        for call, given in CALLS:
+            kept = copy.deepcopy(given)
+            call(**given)
+            self.assertEqual(given, kept, call)
+
+    def test_arguments_are_the_same_behind_an_error(self):
+        wrong = [[(0, 1), (1, 0), [0]], [(1, 0), (0, 1)], [RULES, [RULES]], [None, [None]]]
+        for call, given in CALLS:
+            for name in given:
+                for value in wrong:
+                    kept = copy.deepcopy(value)
+                    try:
+                        call(**{**given, name: value})
+                    except errors.RuleError:
+                        pass
+                    self.assertEqual(value, kept, call)
+
+    def test_equal_arguments_give_equal_results(self):
+        for call, given in CALLS:
+            self.assertEqual(call(**copy.deepcopy(given)), call(**given), call)
+
+
+class Results(unittest.TestCase):
+    def test_returned_lists_are_new(self):
+        for call, given in CALLS:
+            first = call(**given)
+            second = call(**given)
+            lists = lists_in(first) + lists_in(second) + lists_in(list(given.values()))
+            self.assertEqual(len({id(item) for item in lists}), len(lists), call)
+
+    def test_a_changed_result_changes_no_later_one(self):
+        for call, given in CALLS:
+            kept = copy.deepcopy(call(**given))
+            result = call(**given)
+            for item in lists_in(result):
+                item.append("more")
+            self.assertEqual(call(**given), kept, call)
+
+    def test_arguments_that_are_changed_later_change_no_result(self):
+        for call, given in CALLS:
+            lent = copy.deepcopy(given)
+            result = call(**lent)
+            kept = copy.deepcopy(result)
+            for item in lists_in(list(lent.values())):
+                item.clear()
+            self.assertEqual(result, kept, call)
+
+    def test_truths_are_true_or_false(self):
+        for call, given in CALLS:
+            if call.__name__.startswith("is_") or call.__name__ == "obeys":
+                self.assertIn(call(**given), (True, False))
+                self.assertIs(type(call(**given)), bool, call)
+
+    def test_numbers_are_no_truths(self):
+        for call, given in [(kinds.rank, LINE), (knots.clash_size, LINE), (knots.clash_size, [(1,)])]:
+            self.assertIs(type(call(given)), int)
+
+    def test_what_was_returned_can_be_passed_back(self):
+        self.assertEqual(kinds.opposites(kinds.opposites(kinds.beside(LINE, LINE))), BOXES2)
+        self.assertIs(knots.is_knot(TILTED, knots.knots(TILTED)), False)
+        self.assertIs(knots.is_knot(TILTED, knots.knots(TILTED)[0]), True)
+        self.assertIs(kinds.is_world(THREE, kinds.world_of(THREE, RULES)), True)
+        self.assertIs(kinds.is_fraction(kinds.product(THREE, (3, 7), POINT)), True)
+        self.assertIs(kinds.is_book(kinds.mixed(THREE, ((1, 1), (0, 1)))), True)
+
+
+class Errors(unittest.TestCase):
+    def check(self, call, given, error):
+        with self.assertRaises(error) as caught:
+            call(**given)
+        self.assertIs(type(caught.exception), error)
+        self.assertIsInstance(caught.exception, errors.RuleError)
+        self.assertIsInstance(caught.exception, ValueError)
+
+    def test_any_value_in_the_place_of_each_parameter(self):
+        for call, given in CALLS:
+            for name in given:
+                for value in ODD_VALUES:
+                    with self.subTest(call=call.__name__, name=name, value=value):
+                        if name in ERRORS:
+                            self.check(call, {**given, name: value}, ERRORS[name])
+                        else:
+                            self.assertIs(call(**{**given, name: value}), False)
+
+    def test_the_first_wrong_parameter_counts(self):
+        for call, given in CALLS:
+            names = list(given)
+            for at, name in enumerate(names):
+                if name in ERRORS:
+                    wrong = {later: "wrong" for later in names[at:]}
+                    self.check(call, {**given, **wrong}, ERRORS[name])
+
+    def test_a_value_for_an_unknown_number_of_unknowns(self):
+        """What fits one book does not fit another one."""
+        self.check(kinds.product, {"book": LINE, "numbers": (2, 5), "point": POINT}, errors.InvalidNumbers)
+        self.check(kinds.product, {"book": LINE, "numbers": (2,), "point": POINT}, errors.InvalidPoint)
+        self.check(kinds.is_in, {"book": LINE, "world": WORLD, "point": POINT}, errors.InvalidWorld)
+        self.check(kinds.obeys, {"book": LINE, "rules": RULES, "point": POINT}, errors.InvalidRules)
+        self.check(kinds.mixed, {"book": LINE, "matrix": ((1, 1), (0, 1))}, errors.InvalidMatrix)
+        self.check(knots.knots_with, {"book": LINE, "number": 2}, errors.InvalidNumber)
+
+
+if __name__ == "__main__":
+    unittest.main()
