@@ -1,10 +1,10 @@
 """Kinds, books, fractions, rules, worlds and points, and the checks of these parameters."""
 
 from math import gcd
-from clashsize.errors import InvalidBook, InvalidMatrix, InvalidNumber, InvalidNumbers
-from clashsize.errors import InvalidPoint, InvalidRules, InvalidWorld, TooLarge
+from clashsize.errors import InvalidBook, InvalidFraction, InvalidKind, InvalidMatrix, InvalidNumber
+from clashsize.errors import InvalidNumbers, InvalidPoint, InvalidRules, InvalidWorld, TooLarge
 from clashsize.ratios import at_most, dot
-from clashsize.tables import common_divisor, determinant, inner, rank_of
+from clashsize.tables import common_divisor, determinant, inner, opposite, rank_of
 
 MOST_UNKNOWNS = 5
 MOST_KINDS = 12
@@ -90,6 +90,18 @@ def check_book(book):
         raise InvalidBook("not an ascending list of 1 to 12 kinds with as many unknowns")
 
 
+def check_kind(book, kind):
+    """InvalidKind unless it is a kind with as many unknowns as the book."""
+    if not is_kind(kind) or len(kind) != len(book[0]):
+        raise InvalidKind("not a kind with as many unknowns as the book")
+
+
+def check_fraction(fraction):
+    """InvalidFraction unless it is a fraction."""
+    if not is_fraction(fraction):
+        raise InvalidFraction("not a fraction in lowest terms with a positive denominator")
+
+
 def check_numbers(book, numbers):
     """InvalidNumbers unless it is a tuple of as many integers as the book has unknowns."""
     if not is_integers(numbers) or len(numbers) != len(book[0]):
@@ -118,9 +130,11 @@ def check_rules(book, rules):
 
 
 def check_number(number, low, high):
-    """InvalidNumber unless it is an integer from low to high."""
-    if not is_integer(number) or not low <= number <= high:
-        raise InvalidNumber(f"not an integer from {low} to {high}")
+    """InvalidNumber unless it is an integer from low to high; there is no end if high is None."""
+    if not is_integer(number) or number < low:
+        raise InvalidNumber(f"not an integer from {low} on")
+    if high is not None and number > high:
+        raise InvalidNumber(f"above {high}")
 
 
 def product(book, numbers, point):
@@ -168,7 +182,7 @@ def world_of(book, rules):
 def opposites(book):
     """The book of the opposites of the kinds."""
     check_book(book)
-    return sorted([tuple([-item for item in kind]) for kind in book])
+    return sorted([opposite(kind) for kind in book])
 
 
 def mixed(book, matrix):

@@ -1,7 +1,8 @@
 """Knots of a book: the least sets of kinds that can clash, with their weights."""
 
+from clashsize.errors import InvalidKnot
 from clashsize.kinds import check_book, check_number, is_integers
-from clashsize.tables import common_divisor, inner, rank_of
+from clashsize.tables import common_divisor, inner, mask_of, rank_of
 
 
 def knots(book):
@@ -15,17 +16,21 @@ def balances(kinds, unknowns):
 
     Each is a list of tuples (number, weight), in the form of a knot.
     """
-    count = len(kinds)
-    rays = [[int(one == two) for two in range(count)] for one in range(count)]
+    rays = unit_rays(len(kinds))
     for unknown in unknowns:
-        rays = _balanced(rays, [kind[unknown] for kind in kinds])
+        rays = balanced(rays, [kind[unknown] for kind in kinds])
     return sorted([[(at, weight) for at, weight in enumerate(ray) if weight > 0] for ray in rays])
 
 
-def _balanced(rays, column):
+def unit_rays(count):
+    """For each of so many kinds the weights that have 1 for it and 0 for the others."""
+    return [[int(one == two) for two in range(count)] for one in range(count)]
+
+
+def balanced(rays, column):
     """The least weights among all sums of rays that add up to 0 with the column."""
     totals = [inner(ray, column) for ray in rays]
-    masks = [_mask(ray) for ray in rays]
+    masks = [mask_of([at for at, weight in enumerate(ray) if weight > 0]) for ray in rays]
     out = [ray for ray, total in zip(rays, totals) if total == 0]
     for one, above in enumerate(totals):
         for two, below in enumerate(totals):
@@ -34,13 +39,8 @@ def _balanced(rays, column):
     return out
 
 
-def _mask(ray):
-    """An integer with one bit for each kind that has a weight."""
-    return sum([1 << at for at, weight in enumerate(ray) if weight > 0])
-
-
 def _are_neighbours(masks, both):
-    """Whether no third ray has kinds of these two alone.
+    """Whether no third ray has kinds of these two alone; the masks tell the kinds that have a weight.
 
     Only the sums of such two are least: any other sum has the kinds of a third one.
     """
@@ -78,6 +78,12 @@ def is_knot(book, value):
     # Positive weights are the only ones of their kinds if just one kind depends on the others.
     return rank_of(kinds) == len(kinds) - 1 and not any(
         [inner(weights, column) for column in zip(*kinds)])
+
+
+def check_knot(book, knot):
+    """InvalidKnot unless it is a knot of the book."""
+    if not is_knot(book, knot):
+        raise InvalidKnot("not a knot of the book")
 
 
 def _is_weighted(book, value):

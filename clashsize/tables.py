@@ -16,25 +16,19 @@ def inner(row, other):
     return sum([one * two for one, two in zip(row, other)])
 
 
+def opposite(row):
+    """The tuple with all signs changed."""
+    return tuple([-item for item in row])
+
+
+def mask_of(numbers):
+    """An integer with one bit for each of the numbers."""
+    return sum([1 << number for number in numbers])
+
+
 def rank_of(rows):
     """The greatest number of linearly independent rows."""
-    left = [list(row) for row in rows if any(row)]
-    found = 0
-    while left:
-        found += 1
-        left = _cleared(left[0], left[1:])
-    return found
-
-
-def _cleared(pivot, rows):
-    """The rows with a zero where the pivot begins, without those that are zeros only."""
-    place = [at for at, item in enumerate(pivot) if item != 0][0]
-    out = []
-    for row in rows:
-        rest = [pivot[place] * item - row[place] * lead for item, lead in zip(row, pivot)]
-        if any(rest):
-            out.append(rest)
-    return out
+    return len(reduced(rows))
 
 
 def determinant(rows):
@@ -49,3 +43,24 @@ def determinant(rows):
             total = total + sign * row[0] * determinant(minor)
         sign = -sign
     return total
+
+
+def reduced(rows):
+    """Independent rows with the same sums, each with a place where it alone has an item that is not 0."""
+    done = []
+    left = [list(row) for row in rows]
+    while left:
+        lead = left[0]
+        left = left[1:]
+        if any(lead):
+            place = [at for at, item in enumerate(lead) if item != 0][0]
+            done = [_without(row, lead, place) for row in done] + [lead]
+            left = [_without(row, lead, place) for row in left]
+    return done
+
+
+def _without(row, lead, place):
+    """The row with a zero at a place where the lead has another item, without a common divisor."""
+    rest = [lead[place] * item - row[place] * other for item, other in zip(row, lead)]
+    common = common_divisor(rest)
+    return rest if common == 0 else [item // common for item in rest]

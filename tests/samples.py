@@ -18,6 +18,15 @@ BOXES5 = sorted([tuple([sign if at == unknown else 0 for at in range(5)]) for un
 # The least book with a knot of six kinds: five units and the opposite of their sum.
 SIX = sorted([tuple([int(at == unknown) for at in range(5)]) for unknown in range(5)] + [(-1,) * 5])
 BOOKS = [BOXES2, THREE, TILTED, LINE, ONE_WAY, QUARTER, BOXES5, SIX]
+TWELVE = [(1, at) for at in range(12)]
+# Signed points around a curve, rounded: twelve kinds of five unknowns with 112 knots, all of six kinds.
+CURVE = [
+    (-20, -17, -10, -10, -17), (-20, -17, 10, -10, 17), (-20, 17, -10, -10, 17), (-20, 17, 10, -10, -17),
+    (-1, 0, -1, 1, 0), (-1, 0, 1, 1, 0), (1, -1, 0, 1, 0), (1, 1, 0, 1, 0),
+    (20, -10, -17, -10, 17), (20, -10, 17, -10, -17), (20, 10, -17, -10, -17), (20, 10, 17, -10, 17),
+]
+DIFFERENCES4 = sorted([tuple([int(at == one) - int(at == two) for at in range(4)])
+                       for one in range(4) for two in range(4) if one != two])
 
 HUGE = 10 ** 30 - 1
 
@@ -29,7 +38,7 @@ def deep(depth, core):
     return core
 
 
-# Values that are no argument of any kind that kinds.py and knots.py take.
+# Values that are no argument of any kind, but for great numbers and for None as a bound.
 ODD_VALUES = [
     None, True, False, -1, 10 ** 59, -10 ** 59, "", "1,0", "[(1, 0)]", (), {}, {"book": [(1, 0)]}, {"a": {"b": [None]}},
     [[]], ((),), [()], ([],), [None, 0], (None,), [True], (True, False), ["(1, 0)"], ("1", "0"), [[-1, 0], [1, 0]],
@@ -57,29 +66,82 @@ def random_books():
     return [random_book(source, *shape) for shape in shapes for _ in range(3)]
 
 
+def as_fraction(item):
+    return Fraction(item[0], item[1])
+
+
+def pair_of(value):
+    """A number in the form of the document."""
+    value = Fraction(value)
+    return (value.numerator, value.denominator)
+
+
+def slow_dot(numbers, point):
+    """The sum of the products of integers and the fractions of a point, as a Fraction."""
+    return sum([number * as_fraction(item) for number, item in zip(numbers, point)], Fraction(0))
+
+
+def random_fraction(source, reach=9):
+    return pair_of(Fraction(source.randint(-reach, reach), source.randint(1, 9)))
+
+
+def random_world(source, book):
+    """A world whose bounds lie around those of a point, some of them just there, some None."""
+    point = [random_fraction(source, 4) for _ in book[0]]
+    steps = source.choice([[0], [0, 1], [0, 1, 2, 5], [-1, 0], [-1, 0, 1], [-2, 0, 3], [-2, -1], [Fraction(1, 2), 1]])
+    left_out = source.choice([0, 0, 2, 5])
+    world = []
+    for kind in book:
+        bound = pair_of(slow_dot(kind, point) + source.choice(steps))
+        world.append(None if source.randint(0, 9) < left_out else bound)
+    return world
+
+
+def random_rules(source, book, count):
+    """So many rules, several of one kind and equal ones among them."""
+    return [(source.randrange(len(book)), pair_of(source.randint(-3, 4))) for _ in range(count)]
+
+
+def rule_list(world):
+    """The rules of a world."""
+    return [(number, bound) for number, bound in enumerate(world) if bound is not None]
+
+
+def slow_rank(rows):
+    """How many rows are no sums of those ahead, by Gauss with fractions."""
+    kept = []
+    for row in rows:
+        rest = [Fraction(item) for item in row]
+        for lead, base in kept:
+            rest = [item - rest[lead] * other for item, other in zip(rest, base)]
+        if any(rest):
+            lead = [item != 0 for item in rest].index(True)
+            kept.append((lead, [item / rest[lead] for item in rest]))
+    return len(kept)
+
+
 def only_weights(kinds):
     """The positive weights, without a common divisor, with which the kinds add up to zeros; None unless they are unique.
 
-    Gauss on the columns: one free kind, which all others depend on.
+    Gauss on the columns, without fractions: one free kind, which all others depend on.
     """
-    rows = [[Fraction(kind[unknown]) for kind in kinds] for unknown in range(len(kinds[0]))]
+    rows = list(zip(*kinds))
     leads = []
     for place in range(len(kinds)):
-        below = [at for at in range(len(leads), len(rows)) if rows[at][place] != 0]
+        done = len(leads)
+        below = [at for at in range(done, len(rows)) if rows[at][place] != 0]
         if below:
-            done = len(leads)
             rows[done], rows[below[0]] = rows[below[0]], rows[done]
-            rows[done] = [item / rows[done][place] for item in rows[done]]
-            for at in range(len(rows)):
-                if at != done:
-                    rows[at] = [item - rows[at][place] * lead for item, lead in zip(rows[at], rows[done])]
+            lead = rows[done]
+            rows = [row if row is lead or row[place] == 0
+                    else [item * lead[place] - row[place] * other for item, other in zip(row, lead)] for row in rows]
             leads.append(place)
     free = [place for place in range(len(kinds)) if place not in leads]
     if len(free) != 1:
         return None
     weights = [Fraction(1)] * len(kinds)
-    for at, place in enumerate(leads):
-        weights[place] = -rows[at][free[0]]
+    for row, place in zip(rows, leads):
+        weights[place] = Fraction(-row[free[0]], row[place])
     if min(weights) <= 0:
         return None
     bottom = lcm(*[weight.denominator for weight in weights])

@@ -1,46 +1,14 @@
-"""Promises 2 and 3 over all functions of kinds.py and knots.py: arguments, results, and which error comes when."""
+"""Promises 2 and 3 over all functions of the interface: arguments, results, and which error comes when."""
 
 import copy
 import unittest
 
-from clashsize import errors, kinds, knots
+from clashsize import errors, families, kinds, knots, worlds
 
+from calls import CALLS, ERRORS, KNOT, NO_ERRORS, POINT, RULES, WORLD
 from samples import BOXES2, LINE, ODD_VALUES, THREE, TILTED
 
-POINT = ((1, 2), (-1, 3))
-WORLD = [(5, 1), None, (1, 2)]
-RULES = [(0, (5, 1)), (0, (3, 1)), (2, (1, 2))]
-KNOT = [(0, 1), (1, 1), (2, 1)]
-
-# Each function with arguments that it takes, in the order of its signature.
-CALLS = [
-    (kinds.is_kind, {"value": (1, 0)}),
-    (kinds.is_book, {"value": THREE}),
-    (kinds.is_fraction, {"value": (1, 2)}),
-    (kinds.is_rules, {"book": THREE, "value": RULES}),
-    (kinds.is_world, {"book": THREE, "value": WORLD}),
-    (kinds.is_point, {"book": THREE, "value": POINT}),
-    (kinds.product, {"book": THREE, "numbers": (2, 5), "point": POINT}),
-    (kinds.obeys, {"book": THREE, "rules": RULES, "point": POINT}),
-    (kinds.is_in, {"book": THREE, "world": WORLD, "point": POINT}),
-    (kinds.rank, {"book": THREE}),
-    (kinds.world_of, {"book": THREE, "rules": RULES}),
-    (kinds.opposites, {"book": THREE}),
-    (kinds.mixed, {"book": THREE, "matrix": ((1, 1), (0, 1))}),
-    (kinds.beside, {"book": THREE, "other_book": LINE}),
-    (knots.knots, {"book": THREE}),
-    (knots.knot_numbers, {"book": THREE}),
-    (knots.clash_size, {"book": THREE}),
-    (knots.is_knot, {"book": THREE, "value": KNOT}),
-    (knots.greatest_knot, {"book": THREE}),
-    (knots.knots_with, {"book": THREE, "number": 1}),
-]
-
-ERRORS = {
-    "book": errors.InvalidBook, "other_book": errors.InvalidBook, "numbers": errors.InvalidNumbers,
-    "point": errors.InvalidPoint, "world": errors.InvalidWorld, "rules": errors.InvalidRules,
-    "matrix": errors.InvalidMatrix, "number": errors.InvalidNumber,
-}
+TRUTHS = ("obeys", "pairs_enough", "has_points", "breaks_alone", "meet", "follows", "same_points", "has_inside")
 
 
 def lists_in(value):
@@ -110,12 +78,13 @@ class Results(unittest.TestCase):
 
     def test_truths_are_true_or_false(self):
         for call, given in CALLS:
-            if call.__name__.startswith("is_") or call.__name__ == "obeys":
+            if call.__name__.startswith("is_") or call.__name__ in TRUTHS:
                 self.assertIn(call(**given), (True, False))
                 self.assertIs(type(call(**given)), bool, call)
 
     def test_numbers_are_no_truths(self):
-        for call, given in [(kinds.rank, LINE), (knots.clash_size, LINE), (knots.clash_size, [(1,)])]:
+        for call, given in [(kinds.rank, LINE), (knots.clash_size, LINE), (knots.clash_size, [(1,)]), (families.ring_total, 2),
+                            (families.box_size, (1,))]:
             self.assertIs(type(call(given)), int)
 
     def test_what_was_returned_can_be_passed_back(self):
@@ -125,6 +94,9 @@ class Results(unittest.TestCase):
         self.assertIs(kinds.is_world(THREE, kinds.world_of(THREE, RULES)), True)
         self.assertIs(kinds.is_fraction(kinds.product(THREE, (3, 7), POINT)), True)
         self.assertIs(kinds.is_book(kinds.mixed(THREE, ((1, 1), (0, 1)))), True)
+        self.assertIs(kinds.is_book(families.boxes(5)), True)
+        self.assertIs(worlds.breaks_alone(THREE, KNOT, worlds.breaking(THREE, KNOT)), True)
+        self.assertIs(worlds.is_forcing(THREE, worlds.forcing(THREE)), True)
 
 
 class Errors(unittest.TestCase):
@@ -140,7 +112,9 @@ class Errors(unittest.TestCase):
             for name in given:
                 for value in ODD_VALUES:
                     with self.subTest(call=call.__name__, name=name, value=value):
-                        if name in ERRORS:
+                        if value in NO_ERRORS.get((call.__name__, name), []):
+                            call(**{**given, name: value})
+                        elif name in ERRORS:
                             self.check(call, {**given, name: value}, ERRORS[name])
                         else:
                             self.assertIs(call(**{**given, name: value}), False)

@@ -24,6 +24,34 @@ KNOTS = """
 [[[(0, 1), (3, 1)], [(1, 1), (2, 1)]], [[(0, 1), (1, 1), (2, 1)]], [0, 1], 2, [(0, 1), (3, 1)], [[(1, 1), (2, 1)]], False]
 """
 
+PARTS = """
+>>> from clashsize.parts import components, free_kinds, is_falling, is_sliding, pairs_enough
+>>> half = [(-1, 0), (0, 1), (1, 0)]
+>>> [free_kinds(half), is_sliding(half, (0, -1)), is_falling([(0, 1), (1, 0)], (-1, -1)), components(boxes2), components(three), pairs_enough(tilted)]
+[[1], True, True, [[0, 3], [1, 2]], [[0, 1, 2]], True]
+"""
+
+WORLDS = """
+>>> from clashsize.worlds import breaks_alone, broken, has_points, is_forcing, knot_sum
+>>> world = [(-1, 1), (0, 1), (0, 1)]
+>>> [broken(three, world), knot_sum(three, [(0, 1), (1, 1), (2, 1)], world), has_points(three, [(-1, 1), None, (0, 1)]), breaks_alone(boxes2, [(0, 1), (3, 1)], [(-1, 1), (5, 1), (5, 1), (0, 1)])]
+[[[(0, 1), (1, 1), (2, 1)]], (-1, 1), True, True]
+>>> is_forcing(three, ([(0, (-1, 1)), (1, (0, 1)), (2, (0, 1))], [((0, 1), (0, 1)), ((0, 1), (1, 1)), ((1, 1), (0, 1))]))
+True
+"""
+
+FAMILIES = """
+>>> from clashsize.families import arrows, box_size, differences, fan_numbers, ring_number, ring_total
+>>> [arrows(3, [(0, 1), (1, 2), (2, 0)]), len(differences(4)), ring_number(4, 3), ring_total(4), box_size((1, 0, -2)), fan_numbers([(-1, -1), (-1, 0), (-1, 1), (0, -1), (0, 1), (1, -1), (1, 0), (1, 1)])]
+[[(-1, 0, 1), (0, 1, -1), (1, -1, 0)], 12, 8, 20, 3, (4, 8)]
+"""
+
+CHANGES = """
+>>> from clashsize.changes import adds_knots, fewest_out, is_blocking, needed_kinds, raising, size_with
+>>> [size_with(boxes2, (1, 1)), adds_knots(boxes2, (1, 1)), is_blocking([(1, 0)], (0, 1), (0, -1)), raising(boxes2, 1), needed_kinds(three), fewest_out(boxes2, 0)]
+[3, 1, True, [(-1, -1), (-1, 1), (1, -1), (1, 1)], [0, 1, 2], [[0, 1], [0, 2], [1, 3], [2, 3]]]
+"""
+
 
 class Examples(unittest.TestCase):
     def check(self, name, text, number):
@@ -39,10 +67,22 @@ class Examples(unittest.TestCase):
     def test_knots(self):
         self.check("knots", KNOTS, 5)
 
+    def test_parts(self):
+        self.check("parts", PARTS, 6)
+
+    def test_worlds(self):
+        self.check("worlds", WORLDS, 7)
+
+    def test_families(self):
+        self.check("families", FAMILIES, 5)
+
+    def test_changes(self):
+        self.check("changes", CHANGES, 5)
+
     def test_readme(self):
         readme = Path(__file__).resolve().parent.parent / "README.md"
         # The fences end the examples as blank lines would.
-        self.check("readme", readme.read_text().replace("```", ""), 12)
+        self.check("readme", readme.read_text().replace("```", ""), 17)
 
 
 if __name__ == "__main__":

@@ -4,6 +4,8 @@ import importlib
 import inspect
 import unittest
 
+from calls import CALLS
+
 INTERFACE = {
     "clashsize.errors": {
         "RuleError": None, "InvalidRules": ["index"], "InvalidRanges": ["index"], "InvalidParties": ["index"],
@@ -19,6 +21,24 @@ INTERFACE = {
     "clashsize.knots": {
         "knots": ["book"], "knot_numbers": ["book"], "clash_size": ["book"], "is_knot": ["book", "value"],
         "greatest_knot": ["book"], "knots_with": ["book", "number"],
+    },
+    "clashsize.parts": {
+        "free_kinds": ["book"], "falling": ["book"], "sliding": ["book"], "is_falling": ["book", "value"],
+        "is_sliding": ["book", "value"], "components": ["book"], "pairs_enough": ["book"], "is_two_sided": ["book"],
+    },
+    "clashsize.worlds": {
+        "knot_sum": ["book", "knot", "world"], "broken": ["book", "world"], "has_points": ["book", "world"],
+        "breaking": ["book", "knot"], "breaks_alone": ["book", "knot", "value"], "forcing": ["book"],
+        "is_forcing": ["book", "value"],
+    },
+    "clashsize.families": {
+        "boxes": ["number"], "differences": ["number"], "arrows": ["number", "pairs"], "ring_number": ["number", "size"],
+        "ring_total": ["number"], "box_size": ["kind"], "fan_numbers": ["fan"],
+    },
+    "clashsize.changes": {
+        "size_with": ["book", "kind"], "adds_knots": ["book", "kind"], "blocking": ["book", "kind"],
+        "is_blocking": ["book", "kind", "value"], "raising": ["book", "reach"], "needed_kinds": ["book"],
+        "fewest_out": ["book", "size"],
     },
 }
 
@@ -40,6 +60,12 @@ class Interface(unittest.TestCase):
                     self.assertEqual({item.kind for item in found.values()},
                                      {inspect.Parameter.POSITIONAL_OR_KEYWORD}, member)
                     self.assertEqual({item.default for item in found.values()}, {inspect.Parameter.empty}, member)
+
+    def test_each_function_has_a_call_in_the_tests(self):
+        listed = {(name, member) for name, members in INTERFACE.items() for member in members if name != "clashsize.errors"}
+        self.assertEqual({(call.__module__, call.__name__) for call, _ in CALLS}, listed)
+        for call, given in CALLS:
+            self.assertEqual(list(given), INTERFACE[call.__module__][call.__name__])
 
 
 if __name__ == "__main__":

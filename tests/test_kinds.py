@@ -4,9 +4,8 @@ import unittest
 
 from clashsize.kinds import is_book, is_fraction, is_kind, is_point, is_rules, is_world
 
-from samples import BOOKS, BOXES5, HUGE, LINE, ODD_VALUES, THREE, random_books
+from samples import BOOKS, BOXES5, HUGE, LINE, ODD_VALUES, THREE, TWELVE, random_books
 
-TWELVE = [(1, at) for at in range(12)]
 THIRTEEN = [(1, at) for at in range(13)]
 RULE = (0, (0, 1))
 ORIGIN = ((0, 1), (0, 1))

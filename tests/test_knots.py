@@ -8,17 +8,9 @@ from clashsize.errors import InvalidBook, InvalidNumber
 from clashsize.kinds import beside, mixed, opposites, rank
 from clashsize.knots import clash_size, greatest_knot, is_knot, knot_numbers, knots, knots_with
 
-from samples import BOOKS, BOXES2, BOXES5, LINE, ODD_VALUES, ONE_WAY, QUARTER, SIX, THREE, TILTED
+from samples import BOOKS, BOXES2, BOXES5, CURVE, DIFFERENCES4, LINE, ODD_VALUES, ONE_WAY, QUARTER, SIX, THREE, TILTED
 from samples import random_books, slow_knots
 
-# Signed points around a curve, rounded: twelve kinds of five unknowns with 112 knots, all of six kinds.
-CURVE = [
-    (-20, -17, -10, -10, -17), (-20, -17, 10, -10, 17), (-20, 17, -10, -10, 17), (-20, 17, 10, -10, -17),
-    (-1, 0, -1, 1, 0), (-1, 0, 1, 1, 0), (1, -1, 0, 1, 0), (1, 1, 0, 1, 0),
-    (20, -10, -17, -10, 17), (20, -10, 17, -10, -17), (20, 10, -17, -10, -17), (20, 10, 17, -10, 17),
-]
-DIFFERENCES4 = sorted([tuple([int(at == one) - int(at == two) for at in range(4)])
-                       for one in range(4) for two in range(4) if one != two])
 KNOT = [(0, 1), (1, 1), (2, 1)]
 
 

@@ -15,7 +15,8 @@ class Package(unittest.TestCase):
 
     def test_the_files_are_there(self):
         found = {path.name for path in PACKAGE.glob("*.py")}
-        self.assertLessEqual({"__init__.py", "errors.py", "kinds.py", "knots.py"}, found)
+        self.assertLessEqual({"__init__.py", "errors.py", "kinds.py", "knots.py", "parts.py", "worlds.py", "families.py",
+                              "changes.py"}, found)
 
 
 class Sources(unittest.TestCase):

@@ -2,31 +2,20 @@
 
 import random
 import unittest
-from fractions import Fraction
 
 from clashsize.errors import InvalidBook, InvalidMatrix, InvalidNumbers, InvalidPoint
 from clashsize.errors import InvalidRules, InvalidWorld, TooLarge
 from clashsize.kinds import beside, is_book, is_in, mixed, obeys, opposites, product, rank, world_of
 
-from samples import BOOKS, BOXES2, BOXES5, HUGE, LINE, ONE_WAY, QUARTER, SIX, THREE, TILTED, random_book, random_books
+from samples import BOOKS, BOXES2, BOXES5, HUGE, LINE, ONE_WAY, QUARTER, SIX, THREE, TILTED, TWELVE
+from samples import as_fraction, pair_of, random_book, random_books, random_fraction, rule_list, slow_dot, slow_rank
 
 RULE = (0, (0, 1))
 ORIGIN = ((0, 1), (0, 1))
-TWELVE = [(1, at) for at in range(12)]
-
-
-def as_fraction(item):
-    return Fraction(item[0], item[1])
 
 
 def slow_product(numbers, point):
-    total = sum([number * as_fraction(item) for number, item in zip(numbers, point)], Fraction(0))
-    return (total.numerator, total.denominator)
-
-
-def random_fraction(source):
-    value = Fraction(source.randint(-9, 9), source.randint(1, 9))
-    return (value.numerator, value.denominator)
+    return pair_of(slow_dot(numbers, point))
 
 
 class Products(unittest.TestCase):
@@ -109,10 +98,10 @@ class Obeying(unittest.TestCase):
         for book in BOOKS * 8:
             point = tuple([random_fraction(source) for _ in book[0]])
             world = [source.choice([None, random_fraction(source), (9, 1), (99, 1)]) for _ in book]
-            told = [(number, bound) for number, bound in enumerate(world) if bound is not None]
-            answer = all([as_fraction(slow_product(book[number], point)) <= as_fraction(bound) for number, bound in told])
+            rules = rule_list(world)
+            answer = all([as_fraction(slow_product(book[number], point)) <= as_fraction(bound) for number, bound in rules])
             self.assertIs(is_in(book, world, point), answer)
-            self.assertIs(obeys(book, told, point), answer)
+            self.assertIs(obeys(book, rules, point), answer)
 
     def test_wrong_rules(self):
         wrong = [([RULE] * 41, None), (None, None), ((RULE,), None), ([None] * 41, None), ([None], 0), ([RULE, RULE, 7, 8], 2),
@@ -151,19 +140,6 @@ class Ranks(unittest.TestCase):
         source = random.Random(5)
         for book in random_books() + [random_book(source, 3, 3, 2) for _ in range(40)]:
             self.assertEqual(rank(book), slow_rank(book), book)
-
-
-def slow_rank(rows):
-    """How many rows are no sums of those ahead, by Gauss with fractions."""
-    kept = []
-    for row in rows:
-        rest = [Fraction(item) for item in row]
-        for lead, base in kept:
-            rest = [item - rest[lead] * other for item, other in zip(rest, base)]
-        if any(rest):
-            lead = [item != 0 for item in rest].index(True)
-            kept.append((lead, [item / rest[lead] for item in rest]))
-    return len(kept)
 
 
 class WorldsOfRules(unittest.TestCase):
