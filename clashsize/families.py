@@ -7,7 +7,7 @@ from clashsize.tables import common_divisor
 
 MOST_IN_RINGS = 1000
 MOST_IN_FANS = 400
-GREATEST_IN_FANS = 10 ** 6
+GREATEST_IN_FANS = 1000000
 
 
 def boxes(number):

@@ -1,6 +1,6 @@
 """Each function of the interface with arguments that it takes, and the error of each parameter."""
 
-from clashsize import changes, errors, families, kinds, knots, parts, worlds
+from clashsize import changes, clashes, errors, families, kinds, knots, moves, parts, tights, ways, worlds
 
 from samples import BOXES2, LINE, THREE, TWELVE
 
@@ -12,6 +12,10 @@ KNOT = [(0, 1), (1, 1), (2, 1)]
 HALF = [(-1, 0), (0, 1), (1, 0)]
 FORCING = ([(0, (-1, 1)), (1, (0, 1)), (2, (0, 1))], [((0, 1), (0, 1)), ((0, 1), (1, 1)), ((1, 1), (0, 1))])
 FIVE = BOXES2 + [(1, 1)]
+BOX = [(0, 1), (0, 1), (3, 1), (2, 1), None]
+CLASHING = [(0, (-3, 1)), (1, (1, 1)), (2, (1, 1)), (2, (9, 1)), (1, (0, 1))]
+SPEEDS = [(0, 1), (1, 1), (-1, 2)]
+CONCLUDING = ([(0, (0, 1)), (1, (0, 1))], [((-1, 1), (0, 1)), ((-1, 1), (1, 1))])
 
 # Each function with arguments in the order of its signature.
 CALLS = [
@@ -64,6 +68,36 @@ CALLS = [
     (changes.raising, {"book": BOXES2, "reach": 1}),
     (changes.needed_kinds, {"book": FIVE}),
     (changes.fewest_out, {"book": FIVE, "size": 2}),
+    (clashes.meet, {"book": THREE, "rules": RULES}),
+    (clashes.point_of, {"book": THREE, "rules": RULES}),
+    (clashes.clash_number, {"book": THREE, "rules": CLASHING}),
+    (clashes.clashes, {"book": THREE, "rules": CLASHING}),
+    (clashes.clash_of, {"book": THREE, "rules": CLASHING}),
+    (clashes.is_clash, {"book": THREE, "rules": CLASHING, "value": [(0, 1), (1, 1), (2, 1)]}),
+    (moves.loosening, {"book": THREE, "world": TIGHT, "firmness": [1, 2, 3]}),
+    (moves.holding, {"book": THREE, "world": TIGHT, "firmness": [1, 2, 3]}),
+    (moves.moved, {"book": THREE, "world": WORLD, "speeds": SPEEDS, "time": (2, 3)}),
+    (moves.meeting_times, {"book": THREE, "world": TIGHT, "speeds": SPEEDS}),
+    (ways.ways, {"book": FIVE, "numbers": (1, 1)}),
+    (ways.is_way, {"book": FIVE, "numbers": (1, 1), "value": [(4, (1, 1))]}),
+    (ways.conclusion_size, {"book": FIVE, "numbers": (1, 1)}),
+    (ways.greatest, {"book": FIVE, "world": BOX, "numbers": (2, 1)}),
+    (ways.highest, {"book": FIVE, "world": BOX, "numbers": (2, 1)}),
+    (ways.follows, {"book": FIVE, "world": BOX, "numbers": (2, 1), "bound": (7, 1)}),
+    (ways.rising, {"book": FIVE, "world": [(0, 1), None, None, None, None], "numbers": (2, 1)}),
+    (ways.is_rising, {"book": THREE, "world": [None] * 3, "numbers": (2, 1), "value": (1, 1)}),
+    (ways.concluding, {"book": FIVE, "numbers": (2, 1)}),
+    (ways.is_concluding, {"book": THREE, "numbers": (-1, 0), "value": CONCLUDING}),
+    (tights.tight, {"book": FIVE, "world": BOX}),
+    (tights.same_points, {"book": FIVE, "world": BOX, "other": BOX[:4] + [(5, 1)]}),
+    (tights.parting, {"book": FIVE, "world": BOX, "other": BOX[:4] + [(4, 1)]}),
+    (tights.covering, {"book": FIVE, "world": BOX, "other": BOX[:4] + [(4, 1)]}),
+    (tights.idle, {"book": FIVE, "world": BOX[:4] + [(5, 1)]}),
+    (tights.has_inside, {"book": FIVE, "world": BOX}),
+    (tights.inside_point, {"book": FIVE, "world": BOX}),
+    (tights.core, {"book": FIVE, "world": BOX}),
+    (tights.dimension, {"book": FIVE, "world": BOX}),
+    (tights.is_bounded, {"book": FIVE, "world": BOX}),
 ]
 
 ERRORS = {

@@ -45,15 +45,16 @@ def kinds_for(book, source, count):
 
 class Additions(unittest.TestCase):
     def test_sizes(self):
-        told = [(BOXES2, (1, 1), 3), (BOXES2, (1, 0), 2), (ONE_WAY, (1,), 0), (ONE_WAY, (-1,), 2), (QUARTER, (-1, -1), 3),
-                (QUARTER, (1, 1), 0), (QUARTER, (0, -1), 2), (SIX[1:], (-1,) * 5, 6), (THREE, (1, 1), 3), (TILTED, (0, 1), 3)]
+        told = [(BOXES2, (1, 1), 3), (BOXES2, (1, 0), 2), (ONE_WAY, (1,), 0), (ONE_WAY, (-1,), 2),
+                (QUARTER, (-1, -1), 3), (QUARTER, (1, 1), 0), (QUARTER, (0, -1), 2), (SIX[1:], (-1,) * 5, 6),
+                (THREE, (1, 1), 3), (TILTED, (0, 1), 3)]
         for book, kind, answer in told:
             self.assertEqual(size_with(book, kind), answer, (book, kind))
 
     def test_numbers(self):
-        told = [(BOXES2, (1, 1), 1), (BOXES2, (1, 0), 0), (ONE_WAY, (-1,), 1), (QUARTER, (-1, -1), 1), (THREE, (1, 1), 1),
-                (TILTED, (1, 0), 1), (TILTED, (0, 1), 1), (TWELVE, (-1, 0), 1), (TWELVE, (-1, -5), 5 * 6 + 1),
-                (TWELVE, (0, 1), 0), (TWELVE, (-2, -1), 11)]
+        told = [(BOXES2, (1, 1), 1), (BOXES2, (1, 0), 0), (ONE_WAY, (-1,), 1), (QUARTER, (-1, -1), 1),
+                (THREE, (1, 1), 1), (TILTED, (1, 0), 1), (TILTED, (0, 1), 1), (TWELVE, (-1, 0), 1),
+                (TWELVE, (-1, -5), 5 * 6 + 1), (TWELVE, (0, 1), 0), (TWELVE, (-2, -1), 11)]
         for book, kind, answer in told:
             self.assertEqual(adds_knots(book, kind), answer, (book, kind))
 
@@ -141,7 +142,8 @@ class Raising(unittest.TestCase):
 
     def test_against_a_look_at_each_set(self):
         source = random.Random(26)
-        books = [book for book in SMALL if len(book) <= 6] + [random_book(source, *shape) for shape in [(2, 2, 1), (2, 3, 2), (3, 3, 1), (4, 4, 1)] for _ in (1, 2)]
+        shapes = [(2, 2, 1), (2, 3, 2), (3, 3, 1), (4, 4, 1)] * 2
+        books = [book for book in SMALL if len(book) <= 6] + [random_book(source, *shape) for shape in shapes]
         for book in books:
             for reach in (1, 2):
                 if (2 * reach + 1) ** len(book[0]) <= 130:

@@ -3,9 +3,9 @@
 import copy
 import unittest
 
-from clashsize import errors, families, kinds, knots, worlds
+from clashsize import clashes, errors, families, kinds, knots, moves, tights, ways, worlds
 
-from calls import CALLS, ERRORS, KNOT, NO_ERRORS, POINT, RULES, WORLD
+from calls import BOX, CALLS, CLASHING, ERRORS, FIVE, KNOT, NO_ERRORS, POINT, RULES, SPEEDS, TIGHT, WORLD
 from samples import BOXES2, LINE, ODD_VALUES, THREE, TILTED
 
 TRUTHS = ("obeys", "pairs_enough", "has_points", "breaks_alone", "meet", "follows", "same_points", "has_inside")
@@ -83,8 +83,8 @@ class Results(unittest.TestCase):
                 self.assertIs(type(call(**given)), bool, call)
 
     def test_numbers_are_no_truths(self):
-        for call, given in [(kinds.rank, LINE), (knots.clash_size, LINE), (knots.clash_size, [(1,)]), (families.ring_total, 2),
-                            (families.box_size, (1,))]:
+        for call, given in [(kinds.rank, LINE), (knots.clash_size, LINE), (knots.clash_size, [(1,)]),
+                            (families.ring_total, 2), (families.box_size, (1,))]:
             self.assertIs(type(call(given)), int)
 
     def test_what_was_returned_can_be_passed_back(self):
@@ -97,6 +97,12 @@ class Results(unittest.TestCase):
         self.assertIs(kinds.is_book(families.boxes(5)), True)
         self.assertIs(worlds.breaks_alone(THREE, KNOT, worlds.breaking(THREE, KNOT)), True)
         self.assertIs(worlds.is_forcing(THREE, worlds.forcing(THREE)), True)
+        self.assertIs(clashes.is_clash(THREE, CLASHING, clashes.clashes(THREE, CLASHING)[1]), True)
+        self.assertIs(ways.is_concluding(THREE, (-1, 0), ways.concluding(THREE, (-1, 0))), True)
+        self.assertIs(clashes.meet(THREE, worlds.forcing(THREE)[0]), False)
+        self.assertEqual(tights.tight(FIVE, tights.tight(FIVE, BOX)), tights.tight(FIVE, BOX))
+        later = moves.moved(THREE, WORLD, SPEEDS, moves.loosening(THREE, TIGHT, [1, 2, 3]))
+        self.assertIs(worlds.has_points(THREE, later), True)
 
 
 class Errors(unittest.TestCase):

@@ -52,6 +52,41 @@ CHANGES = """
 [3, 1, True, [(-1, -1), (-1, 1), (1, -1), (1, 1)], [0, 1, 2], [[0, 1], [0, 2], [1, 3], [2, 3]]]
 """
 
+CLASHES = """
+>>> from clashsize.clashes import clash_number, clashes, is_clash, meet, point_of
+>>> rules = [(0, (-3, 1)), (1, (1, 1)), (2, (1, 1)), (2, (9, 1)), (1, (0, 1))]
+>>> [meet(three, rules), clash_number(three, rules), clashes(three, rules), meet(three, rules[:1] + rules[3:]), point_of(three, rules), is_clash(three, rules, [(0, 1), (2, 1)])]
+[False, 2, [[(0, 1), (1, 1), (2, 1)], [(0, 1), (2, 1), (4, 1)]], True, None, False]
+"""
+
+MOVES = """
+>>> from clashsize.moves import holding, loosening, meeting_times, moved
+>>> world = [(-1, 1), (0, 1), (0, 1)]
+>>> [loosening(three, world, [1, 1, 1]), loosening(three, world, [1, 2, 1]), holding(three, world, [1, 1, 1]), moved(three, world, [(0, 1), (1, 1), (1, 2)], (2, 1))]
+[(1, 3), (1, 4), [[(0, 1), (1, 1), (2, 1)]], [(-1, 1), (2, 1), (1, 1)]]
+>>> [meeting_times(three, world, [(0, 1), (1, 1), (1, 1)]), meeting_times(three, world, [(0, 1), (0, 1), (0, 1)]), meeting_times(boxes2, [(0, 1), (0, 1), (1, 1), (1, 1)], [(0, 1), (-1, 1), (0, 1), (1, 1)])]
+[((1, 2), None), None, ((-1, 1), (1, 1))]
+"""
+
+WAYS = """
+>>> from clashsize.ways import conclusion_size, follows, greatest, is_concluding, is_rising, ways
+>>> roof = [(0, 1), (2, 1), (3, 1)]
+>>> [ways(three, (-1, 0)), conclusion_size(three, (-1, 0)), greatest(three, roof, (-1, 0)), greatest(three, roof, (1, 2)), follows(three, roof, (1, 1), (5, 1)), ways(three, (0, 0))]
+[[[(0, (1, 1)), (1, (1, 1))]], 2, (2, 1), (7, 1), True, [[]]]
+>>> [greatest(three, [None, (2, 1), (3, 1)], (-1, 0)), is_rising(three, [None, (2, 1), (3, 1)], (-1, 0), (-1, 0)), is_concluding(three, (-1, 0), ([(0, (0, 1)), (1, (0, 1))], [((-1, 1), (0, 1)), ((-1, 1), (1, 1))]))]
+[None, True, True]
+"""
+
+TIGHTS = """
+>>> from clashsize.tights import core, covering, dimension, has_inside, idle, is_bounded, same_points, tight
+>>> five = [(-1, 0), (0, -1), (0, 1), (1, 0), (1, 1)]
+>>> box = [(0, 1), (0, 1), (3, 1), (2, 1), None]
+>>> [tight(five, box), idle(five, box[:4] + [(5, 1)]), core(five, box), same_points(five, box, box[:4] + [(6, 1)]), dimension(five, box), is_bounded(five, box)]
+[[(0, 1), (0, 1), (3, 1), (2, 1), (5, 1)], [4], [0, 1, 2, 3], True, 2, True]
+>>> [covering(five, box, [(-4, 1), (0, 1), (1, 1), (4, 1), None]), dimension(tilted, [(-1, 1), (0, 1), (0, 1), (1, 1)]), has_inside(tilted, [(-1, 1), (0, 1), (0, 1), (1, 1)])]
+[[(0, 1), (0, 1), (3, 1), (4, 1), (5, 1)], 0, False]
+"""
+
 
 class Examples(unittest.TestCase):
     def check(self, name, text, number):
@@ -79,10 +114,22 @@ class Examples(unittest.TestCase):
     def test_changes(self):
         self.check("changes", CHANGES, 5)
 
+    def test_clashes(self):
+        self.check("clashes", CLASHES, 6)
+
+    def test_moves(self):
+        self.check("moves", MOVES, 7)
+
+    def test_ways(self):
+        self.check("ways", WAYS, 7)
+
+    def test_tights(self):
+        self.check("tights", TIGHTS, 8)
+
     def test_readme(self):
         readme = Path(__file__).resolve().parent.parent / "README.md"
         # The fences end the examples as blank lines would.
-        self.check("readme", readme.read_text().replace("```", ""), 17)
+        self.check("readme", readme.read_text().replace("```", ""), 23)
 
 
 if __name__ == "__main__":

@@ -63,8 +63,9 @@ class Books(unittest.TestCase):
             self.assertEqual(clash_size(arrows(number, circle[1:])), 0)
 
     def test_wrong_arrows(self):
-        wrong = [None, [], ((0, 1),), [(1, 0), (0, 1)], [(0, 1), (0, 1)], [(0, 0)], [(0, 3)], [(3, 0)], [(-1, 0)], [(0, -1)],
-                 [[0, 1]], [(0, 1, 2)], [(0,)], [(False, 1)], [(0, True)], [(0, 1), None], {(0, 1): 1}, [(0, "1")], (0, 1)]
+        wrong = [None, [], ((0, 1),), [(1, 0), (0, 1)], [(0, 1), (0, 1)], [(0, 0)], [(0, 3)], [(3, 0)], [(-1, 0)],
+                 [(0, -1)], [[0, 1]], [(0, 1, 2)], [(0,)], [(False, 1)], [(0, True)], [(0, 1), None], {(0, 1): 1},
+                 [(0, "1")], (0, 1), [(0, 1), (0, 3)], [(0, 1), (1, 1)], [(-1, 0), (0, 1)], [(0, 1), (1, 2), (2, 2)]]
         for pairs in wrong + ODD_VALUES:
             with self.assertRaises(InvalidArrows, msg=pairs):
                 arrows(3, pairs)
@@ -91,7 +92,8 @@ class Books(unittest.TestCase):
 
 class Rings(unittest.TestCase):
     def test_numbers(self):
-        told = [((2, 2), 1), ((3, 2), 3), ((3, 3), 2), ((4, 3), 8), ((4, 4), 6), ((5, 2), 10), ((5, 5), 24), ((10, 4), 1260)]
+        told = [((2, 2), 1), ((3, 2), 3), ((3, 3), 2), ((4, 3), 8), ((4, 4), 6), ((5, 2), 10), ((5, 5), 24),
+                ((10, 4), 1260)]
         for given, answer in told:
             self.assertEqual(ring_number(*given), answer, given)
 
@@ -128,8 +130,8 @@ class Rings(unittest.TestCase):
 
 class BoxSizes(unittest.TestCase):
     def test_against_the_clash_size(self):
-        kinds = [(1,), (-1,), (1, 1), (0, 1), (-20, 19), (1, 0, -2), (0, 0, -1), (3, 5, 7), (1, 0, 0, 2), (0, 2, 0, 0, 1),
-                 (1, 2, 3, 4, 5), (-1, 1, -1, 1, -1), (0, 0, 0, 0, 1)]
+        kinds = [(1,), (-1,), (1, 1), (0, 1), (-20, 19), (1, 0, -2), (0, 0, -1), (3, 5, 7), (1, 0, 0, 2),
+                 (0, 2, 0, 0, 1), (1, 2, 3, 4, 5), (-1, 1, -1, 1, -1), (0, 0, 0, 0, 1)]
         for kind in kinds + [kind for book in random_books() for kind in book]:
             book = sorted(set(boxes(len(kind)) + [kind]))
             self.assertEqual(box_size(kind), clash_size(book), kind)
@@ -191,8 +193,9 @@ class Fans(unittest.TestCase):
         self.assertEqual(fan_numbers(sorted(upper[1:] + [(0, -1)])), (1, 199 * 199))
 
     def test_wrong_fans(self):
-        wrong = [None, [], ((0, 1),), [(1, 0), (0, 1)], [(0, 1), (0, 1)], [(0, 0)], [(2, 0)], [(2, 4)], [(0, 1, 1)], [(1,)],
-                 [[0, 1]], [(True, 0)], [(0, 1), None], [(0, 1), (1, 10 ** 6 + 1)], [(-10 ** 6 - 1, 1)], "fan", {(0, 1): 1}]
+        wrong = [None, [], ((0, 1),), [(1, 0), (0, 1)], [(0, 1), (0, 1)], [(0, 0)], [(2, 0)], [(2, 4)], [(0, 1, 1)],
+                 [(1,)], [[0, 1]], [(True, 0)], [(0, 1), None], [(0, 1), (1, 10 ** 6 + 1)], [(-10 ** 6 - 1, 1)], "fan",
+                 {(0, 1): 1}]
         for fan in wrong + ODD_VALUES:
             with self.assertRaises(InvalidFan, msg=fan):
                 fan_numbers(fan)

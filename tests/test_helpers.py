@@ -60,7 +60,7 @@ class Ratios(unittest.TestCase):
         self.assertEqual([lowest(0, 5), lowest(-6, 4), lowest(7, 7)], [(0, 1), (-3, 2), (1, 1)])
 
     def test_dot(self):
-        self.assertEqual(dot((3, -1), ((1, 6), (1, 2))), (0, 1))
+        self.assertEqual([dot((3, -1), ((1, 6), (1, 2))), dot((), ())], [(0, 1), (0, 1)])
 
     def test_at_most(self):
         told = [((1, 3), (1, 2), True), ((1, 2), (1, 3), False), ((-1, 2), (-1, 3), True), ((2, 5), (2, 5), True)]

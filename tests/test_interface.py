@@ -40,6 +40,27 @@ INTERFACE = {
         "is_blocking": ["book", "kind", "value"], "raising": ["book", "reach"], "needed_kinds": ["book"],
         "fewest_out": ["book", "size"],
     },
+    "clashsize.clashes": {
+        "meet": ["book", "rules"], "point_of": ["book", "rules"], "clash_number": ["book", "rules"],
+        "clashes": ["book", "rules"], "clash_of": ["book", "rules"], "is_clash": ["book", "rules", "value"],
+    },
+    "clashsize.moves": {
+        "loosening": ["book", "world", "firmness"], "holding": ["book", "world", "firmness"],
+        "moved": ["book", "world", "speeds", "time"], "meeting_times": ["book", "world", "speeds"],
+    },
+    "clashsize.ways": {
+        "ways": ["book", "numbers"], "is_way": ["book", "numbers", "value"], "conclusion_size": ["book", "numbers"],
+        "greatest": ["book", "world", "numbers"], "highest": ["book", "world", "numbers"],
+        "follows": ["book", "world", "numbers", "bound"], "rising": ["book", "world", "numbers"],
+        "is_rising": ["book", "world", "numbers", "value"], "concluding": ["book", "numbers"],
+        "is_concluding": ["book", "numbers", "value"],
+    },
+    "clashsize.tights": {
+        "tight": ["book", "world"], "same_points": ["book", "world", "other"], "parting": ["book", "world", "other"],
+        "covering": ["book", "world", "other"], "idle": ["book", "world"], "has_inside": ["book", "world"],
+        "inside_point": ["book", "world"], "core": ["book", "world"], "dimension": ["book", "world"],
+        "is_bounded": ["book", "world"],
+    },
 }
 
 

@@ -16,7 +16,7 @@ class Package(unittest.TestCase):
     def test_the_files_are_there(self):
         found = {path.name for path in PACKAGE.glob("*.py")}
         self.assertLessEqual({"__init__.py", "errors.py", "kinds.py", "knots.py", "parts.py", "worlds.py", "families.py",
-                              "changes.py"}, found)
+                              "changes.py", "clashes.py", "moves.py", "ways.py", "tights.py"}, found)
 
 
 class Sources(unittest.TestCase):

@@ -33,8 +33,9 @@ class Sums(unittest.TestCase):
     def test_sums(self):
         book = [(-3, -5), (0, 1), (2, 1)]
         knot = [(0, 2), (1, 7), (2, 3)]
-        told = [([(1, 1), (1, 1), (1, 1)], (12, 1)), ([(1, 2), (-1, 7), (0, 1)], (0, 1)), ([(1, 3), (0, 1), (1, 9)], (1, 1)),
-                ([(-1, 4), (1, 5), (1, 6)], (7, 5)), ([None, (1, 1), (1, 1)], None), ([(1, 1), (1, 1), None], None)]
+        told = [([(1, 1), (1, 1), (1, 1)], (12, 1)), ([(1, 2), (-1, 7), (0, 1)], (0, 1)),
+                ([(1, 3), (0, 1), (1, 9)], (1, 1)), ([(-1, 4), (1, 5), (1, 6)], (7, 5)), ([None, (1, 1), (1, 1)], None),
+                ([(1, 1), (1, 1), None], None)]
         for world, answer in told:
             self.assertEqual(knot_sum(book, knot, world), answer, world)
 
@@ -51,7 +52,8 @@ class Sums(unittest.TestCase):
                 self.assertEqual(knot_sum(book, knot, world), None if total is None else pair_of(total))
 
     def test_wrong_knots(self):
-        for knot in [None, [], KNOT[:2], KNOT[::-1], tuple(KNOT), [(0, 2), (1, 2), (2, 2)], [(0, 1), (1, 1), (2, True)]]:
+        for knot in [None, [], KNOT[:2], KNOT[::-1], tuple(KNOT), [(0, 2), (1, 2), (2, 2)],
+                     [(0, 1), (1, 1), (2, True)]]:
             for call in (lambda: knot_sum(THREE, knot, None), lambda: breaking(THREE, knot),
                          lambda: breaks_alone(THREE, knot, None)):
                 with self.assertRaises(InvalidKnot, msg=knot):
