@@ -53,7 +53,7 @@ def is_fraction(value):
 def is_rules(book, value):
     """Whether any value is rules of the book."""
     check_book(book)
-    return _is_short_list(value) and all([_is_rule(book, item) for item in value])
+    return _is_short_list(value) and all([is_rule(book, item) for item in value])
 
 
 def _is_short_list(value):
@@ -61,7 +61,7 @@ def _is_short_list(value):
     return type(value) == list and len(value) <= MOST_RULES
 
 
-def _is_rule(book, value):
+def is_rule(book, value):
     """Whether any value is a rule of a book."""
     if type(value) != tuple or len(value) != 2:
         return False
@@ -125,7 +125,7 @@ def check_rules(book, rules):
     if not _is_short_list(rules):
         raise InvalidRules(None)
     for index, item in enumerate(rules):
-        if not _is_rule(book, item):
+        if not is_rule(book, item):
             raise InvalidRules(index)
 
 

@@ -68,16 +68,20 @@ def clash_size(book):
 def is_knot(book, value):
     """Whether any value is a knot of the book."""
     check_book(book)
-    if type(value) != list or not all([_is_weighted(book, item) for item in value]):
+    return is_balance(book, list(range(len(book[0]))), value)
+
+
+def is_balance(kinds, unknowns, value):
+    """Whether any value is in the list of the balances of kinds at these unknowns."""
+    if type(value) != list or not all([_is_weighted(kinds, item) for item in value]):
         return False
     numbers = [item[0] for item in value]
     weights = [item[1] for item in value]
     if numbers != sorted(set(numbers)) or common_divisor(weights) != 1:
         return False
-    kinds = [book[number] for number in numbers]
+    rows = [[kinds[number][unknown] for unknown in unknowns] for number in numbers]
     # Positive weights are the only ones of their kinds if just one kind depends on the others.
-    return rank_of(kinds) == len(kinds) - 1 and not any(
-        [inner(weights, column) for column in zip(*kinds)])
+    return rank_of(rows) == len(rows) - 1 and not any([inner(weights, column) for column in zip(*rows)])
 
 
 def check_knot(book, knot):
@@ -86,11 +90,11 @@ def check_knot(book, knot):
         raise InvalidKnot("not a knot of the book")
 
 
-def _is_weighted(book, value):
+def _is_weighted(kinds, value):
     """Whether any value is a tuple of the number of a kind and a positive integer."""
     if not is_integers(value) or len(value) != 2:
         return False
-    return 0 <= value[0] < len(book) and value[1] > 0
+    return 0 <= value[0] < len(kinds) and value[1] > 0
 
 
 def greatest_knot(book):

@@ -1,26 +1,20 @@
 """Tight worlds: what the points of a world have in common, and which of its bounds are idle."""
 
-from clashsize.errors import NoInside, NoPoints
+from clashsize.errors import NoInside
 from clashsize.kinds import check_book, check_world
 from clashsize.knots import balances
 from clashsize.ratios import at_most, divided, least, minus, negative, plus
 from clashsize.searches import point_below
 from clashsize.tables import opposite, rank_of
 from clashsize.ways import top
-from clashsize.worlds import bounded, has_points, knot_sums
+from clashsize.worlds import bounded, check_has_points, has_points, knot_sums
 
 
 def tight(book, world):
     """The world with the least bound of each kind that all points of a world obey."""
-    _check_points(book, world)
+    check_has_points(book, world)
     kinds, bounds = bounded(book, world)
     return [top(kinds, bounds, kind) for kind in book]
-
-
-def _check_points(book, world):
-    """NoPoints, behind the errors of the parameters, unless some point is in the world."""
-    if not has_points(book, world):
-        raise NoPoints("no point is in the world")
 
 
 def same_points(book, world, other):
@@ -108,7 +102,7 @@ def inside_point(book, world):
 
 def _check_inside(book, world):
     """NoPoints, then NoInside, unless some point obeys all rules with less than the bound."""
-    _check_points(book, world)
+    check_has_points(book, world)
     if not has_inside(book, world):
         raise NoInside("no point obeys all rules with less than the bound")
 
@@ -131,7 +125,7 @@ def dimension(book, world):
 
 def is_bounded(book, world):
     """Whether all unknowns have a least and a greatest value in a world."""
-    _check_points(book, world)
+    check_has_points(book, world)
     kinds, _ = bounded(book, world)
     tied = {number: True for knot in balances(kinds, list(range(len(book[0])))) for number, _ in knot}
     # If all kinds are in knots, the world can only go on along directions that change none of their sums.

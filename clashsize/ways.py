@@ -1,13 +1,13 @@
 """Ways of a book to a goal: what follows from rules, and from how many of them."""
 
-from clashsize.errors import Endless, NoPoints, NoWay
+from clashsize.errors import Endless, NoWay
 from clashsize.kinds import check_book, check_fraction, check_numbers, check_world, is_fraction, is_integer
 from clashsize.knots import balances
 from clashsize.parts import is_direction
 from clashsize.ratios import at_most, dot, least, lowest, negative, plus, times
 from clashsize.searches import direction_below, point_below
 from clashsize.tables import inner, opposite, rank_of
-from clashsize.worlds import bounded, has_points, is_rules_with_points, obey_all_but_own
+from clashsize.worlds import bounded, check_has_points, has_points, is_rules_with_points, obey_all_but_own
 
 
 def ways(book, numbers):
@@ -60,8 +60,7 @@ def greatest(book, world, numbers):
     check_book(book)
     check_world(book, world)
     check_numbers(book, numbers)
-    if not has_points(book, world):
-        raise NoPoints("no point is in the world")
+    check_has_points(book, world)
     kinds, bounds = bounded(book, world)
     return top(kinds, bounds, numbers)
 

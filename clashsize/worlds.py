@@ -1,6 +1,6 @@
 """Worlds, bounds for the kinds of a book: which knots they break, and whether they have points."""
 
-from clashsize.errors import NoKnot
+from clashsize.errors import NoKnot, NoPoints
 from clashsize.kinds import check_book, check_world, is_point, is_rules, is_world, obeys
 from clashsize.knots import check_knot, greatest_knot, knots
 from clashsize.ratios import dot
@@ -37,6 +37,12 @@ def broken(book, world):
 def has_points(book, world):
     """Whether some point is in a world."""
     return broken(book, world) == []
+
+
+def check_has_points(book, world):
+    """NoPoints, behind the errors of the parameters, unless some point is in the world."""
+    if not has_points(book, world):
+        raise NoPoints("no point is in the world")
 
 
 def bounded(book, world):

@@ -1,8 +1,9 @@
 """Each function of the interface with arguments that it takes, and the error of each parameter."""
 
-from clashsize import changes, clashes, errors, families, kinds, knots, moves, parts, tights, ways, worlds
+from clashsize import changes, clashes, errors, families, kinds, knots, leasts, moves, parts, ranges, sights, tights
+from clashsize import ways, wholes, worlds
 
-from samples import BOXES2, LINE, THREE, TWELVE
+from samples import BOXES2, LEAN, LINE, SIGN, SOME, THREE, TILTED, TWELVE
 
 POINT = ((1, 2), (-1, 3))
 WORLD = [(5, 1), None, (1, 2)]
@@ -16,6 +17,11 @@ BOX = [(0, 1), (0, 1), (3, 1), (2, 1), None]
 CLASHING = [(0, (-3, 1)), (1, (1, 1)), (2, (1, 1)), (2, (9, 1)), (1, (0, 1))]
 SPEEDS = [(0, 1), (1, 1), (-1, 2)]
 CONCLUDING = ([(0, (0, 1)), (1, (0, 1))], [((-1, 1), (0, 1)), ((-1, 1), (1, 1))])
+LATE = [(-1, 0), (0, -1), (1, -1)]
+PAIR = ((0, (-1, 1)), ((1, 1), (0, 1)), ((0, 1), (1, 1)))
+LOOSE = [(2, 1), (1, 1), (0, 1)]
+SIGHT = [(0, 1), (1, 1)]
+BARRING = ([(-1, 1), (0, 1), (1, 1)], ((0, 1),))
 
 # Each function with arguments in the order of its signature.
 CALLS = [
@@ -98,16 +104,59 @@ CALLS = [
     (tights.core, {"book": FIVE, "world": BOX}),
     (tights.dimension, {"book": FIVE, "world": BOX}),
     (tights.is_bounded, {"book": FIVE, "world": BOX}),
+    (leasts.lesser_closed, {"book": THREE}),
+    (leasts.greater_closed, {"book": LATE}),
+    (leasts.lesser_pair, {"book": THREE}),
+    (leasts.is_lesser_pair, {"book": THREE, "value": PAIR}),
+    (leasts.least_point, {"book": LATE, "world": [(-2, 1), (0, 1), (-3, 1)]}),
+    (sights.sights, {"book": LEAN, "hidden": [1]}),
+    (sights.shown, {"book": LEAN, "hidden": [1], "sight": SIGHT}),
+    (sights.seen_kinds, {"book": LEAN, "hidden": [1]}),
+    (sights.seen_rules, {"book": LEAN, "world": LOOSE, "hidden": [1]}),
+    (sights.is_seen, {"book": LEAN, "world": LOOSE, "hidden": [1], "point": ((1, 1),)}),
+    (sights.completed, {"book": LEAN, "world": LOOSE, "hidden": [1], "point": ((1, 1),)}),
+    (sights.seen_size, {"book": LEAN, "hidden": [1]}),
+    (sights.barring, {"book": LEAN, "hidden": [1], "sight": SIGHT}),
+    (sights.is_barring, {"book": LEAN, "hidden": [1], "sight": SIGHT, "value": BARRING}),
+    (wholes.is_level, {"book": THREE}),
+    (wholes.whole_size, {"book": TILTED}),
+    (wholes.cross, {"book": TILTED}),
+    (wholes.is_cross, {"book": TILTED, "value": SIGN}),
+    (wholes.rounded, {"book": THREE, "world": WORLD}),
+    (wholes.whole_forcing, {"book": TILTED}),
+    (wholes.cross_rules, {"book": TILTED, "sign": SIGN}),
+    (wholes.middle, {"book": TILTED, "sign": SIGN}),
+    (ranges.depth_of, {"ranges": SOME}),
+    (ranges.crowd_place, {"ranges": SOME}),
+    (ranges.meeting_pairs, {"ranges": SOME}),
+    (ranges.most_pairs, {"number": 5, "depth": 2}),
+    (ranges.forced_depth, {"number": 5, "pairs": 4}),
+    (ranges.crowded, {"number": 5, "depth": 2}),
+    (ranges.apart, {"ranges": SOME}),
+    (ranges.hitting, {"ranges": SOME}),
+    (ranges.most_without, {"ranges": SOME, "number": 2}),
+    (ranges.have_meetings, {"ranges": SOME, "size": 4, "number": 2}),
+    (ranges.fewest_left, {"ranges": SOME}),
 ]
 
 ERRORS = {
     "book": errors.InvalidBook, "other_book": errors.InvalidBook, "numbers": errors.InvalidNumbers,
     "point": errors.InvalidPoint, "world": errors.InvalidWorld, "other": errors.InvalidWorld, "rules": errors.InvalidRules,
     "matrix": errors.InvalidMatrix, "number": errors.InvalidNumber, "size": errors.InvalidNumber,
-    "reach": errors.InvalidNumber, "kind": errors.InvalidKind, "knot": errors.InvalidKnot, "pairs": errors.InvalidArrows,
+    "reach": errors.InvalidNumber, "depth": errors.InvalidNumber, "kind": errors.InvalidKind, "knot": errors.InvalidKnot,
     "fan": errors.InvalidFan, "firmness": errors.InvalidFirmness, "speeds": errors.InvalidSpeeds,
-    "time": errors.InvalidFraction, "bound": errors.InvalidFraction,
+    "time": errors.InvalidFraction, "bound": errors.InvalidFraction, "hidden": errors.InvalidHidden,
+    "sight": errors.InvalidSight, "sign": errors.InvalidCross, "ranges": errors.InvalidRanges,
+    ("arrows", "pairs"): errors.InvalidArrows, ("forced_depth", "pairs"): errors.InvalidNumber,
 }
 
-# Great numbers are no wrong sizes.
-NO_ERRORS = {("ring_number", "size"): [10 ** 59], ("fewest_out", "size"): [10 ** 59]}
+# Values among the odd ones of the samples that are no wrong ones here.
+NO_ERRORS = {
+    ("ring_number", "size"): [10 ** 59], ("fewest_out", "size"): [10 ** 59], ("most_without", "number"): [10 ** 59],
+    ("have_meetings", "size"): [10 ** 59],
+}
+
+
+def error_for(call, name):
+    """The error of a parameter of a function; None if it takes any value."""
+    return ERRORS.get((call.__name__, name), ERRORS.get(name))

@@ -35,6 +35,10 @@ BUILTINS = {
     "ArithmeticError", "OverflowError", "RuntimeError", "NotImplementedError", "AttributeError", "StopIteration",
     "NotImplemented", "print", "__name__",
 }
+METHODS = {
+    "__init__", "__eq__", "__repr__", "__str__", "__len__", "__enter__", "__exit__", "__call__", "__iter__", "__lt__",
+    "__le__", "__gt__", "__ge__", "__ne__", "__bool__", "__contains__", "__getitem__", "__setitem__",
+}
 BARRED_FILES = {
     "test", "tests", "testing", "site", "conftest", "sitecustomize", "usercustomize", "heapq", "math", "itertools",
 }
@@ -59,7 +63,8 @@ def check_source(text, stem="plain"):
     """Complaints about one file."""
     found = check_layout(text)
     tree = ast.parse(text)
-    return found + check_functions(tree) + check_names(tree, stem) + check_words(text, tree) + check_builtins(tree, stem)
+    found = found + check_functions(tree) + check_names(tree, stem) + check_words(text, tree) + check_builtins(tree, stem)
+    return found + check_classes(tree) + check_stars(tree) + check_generators(tree)
 
 
 # L10, L14: sizes and signs.
@@ -328,3 +333,47 @@ def check_builtins(tree, stem):
         if isinstance(node, (ast.AsyncFunctionDef, ast.Await, ast.AsyncFor, ast.AsyncWith)):
             found.append(f"L6: line {node.lineno}: async")
     return found
+
+
+# L4, L5: decorators and methods of classes.
+
+def check_classes(tree):
+    found = []
+    for node in ast.walk(tree):
+        if isinstance(node, ast.FunctionDef):
+            found = found + [f"L4: line {item.lineno}: a decorator" for item in node.decorator_list
+                             if not is_plain_decorator(item)]
+        if isinstance(node, ast.ClassDef):
+            if node.decorator_list:
+                found.append(f"L5: line {node.lineno}: a decorator over a class")
+            for item in node.body:
+                if isinstance(item, ast.FunctionDef) and item.name.startswith("__") and item.name not in METHODS:
+                    found.append(f"L5: line {item.lineno}: {item.name}")
+    return found
+
+
+def is_plain_decorator(node):
+    if isinstance(node, ast.Name):
+        return node.id in ("property", "staticmethod", "classmethod")
+    return isinstance(node, ast.Attribute) and node.attr == "setter"
+
+
+# L7: stars in calls, and generator expressions.
+
+def check_stars(tree):
+    found = []
+    for node in ast.walk(tree):
+        if isinstance(node, ast.Call):
+            behind = [item.value for item in node.args if isinstance(item, ast.Starred)]
+            behind = behind + [item.value for item in node.keywords if item.arg is None]
+            found = found + [f"L7: line {item.lineno}: what stands behind a star" for item in behind
+                             if not isinstance(item, (ast.Name, ast.Attribute, ast.Constant, ast.List, ast.Tuple))]
+    return found
+
+
+def check_generators(tree):
+    """A class of the package has an __eq__, so that these builtins take lists."""
+    return [f"L7: line {node.lineno}: a generator expression in {node.func.id}" for node in ast.walk(tree)
+            if isinstance(node, ast.Call) and isinstance(node.func, ast.Name)
+            and node.func.id in ("any", "all", "min", "max", "sum", "sorted")
+            and any(isinstance(item, ast.GeneratorExp) for item in node.args)]

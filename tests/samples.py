@@ -25,6 +25,10 @@ CURVE = [
     (-1, 0, -1, 1, 0), (-1, 0, 1, 1, 0), (1, -1, 0, 1, 0), (1, 1, 0, 1, 0),
     (20, -10, -17, -10, 17), (20, -10, 17, -10, -17), (20, 10, -17, -10, -17), (20, 10, 17, -10, 17),
 ]
+LEAN = [(-1, 1), (0, -1), (1, 1)]
+# A cross of the tilted book.
+SIGN = ((1, 0), (0, 1), (3, 2, 1, 0))
+SOME = [(0, 4), (3, 6), (5, 9), (8, 9), (20, 20)]
 DIFFERENCES4 = sorted([tuple([int(at == one) - int(at == two) for at in range(4)])
                        for one in range(4) for two in range(4) if one != two])
 

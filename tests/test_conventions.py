@@ -3,12 +3,15 @@
 import copy
 import unittest
 
-from clashsize import clashes, errors, families, kinds, knots, moves, tights, ways, worlds
+from clashsize import clashes, errors, families, kinds, knots, leasts, moves, ranges, sights, tights, ways, wholes, worlds
 
-from calls import BOX, CALLS, CLASHING, ERRORS, FIVE, KNOT, NO_ERRORS, POINT, RULES, SPEEDS, TIGHT, WORLD
-from samples import BOXES2, LINE, ODD_VALUES, THREE, TILTED
+from calls import BOX, CALLS, CLASHING, FIVE, KNOT, LATE, LOOSE, NO_ERRORS, POINT, RULES, SPEEDS, TIGHT, WORLD, error_for
+from samples import BOXES2, LEAN, LINE, ODD_VALUES, SOME, THREE, TILTED
 
-TRUTHS = ("obeys", "pairs_enough", "has_points", "breaks_alone", "meet", "follows", "same_points", "has_inside")
+TRUTHS = (
+    "obeys", "pairs_enough", "has_points", "breaks_alone", "meet", "follows", "same_points", "has_inside",
+    "lesser_closed", "greater_closed", "have_meetings",
+)
 
 
 def lists_in(value):
@@ -103,6 +106,22 @@ class Results(unittest.TestCase):
         self.assertEqual(tights.tight(FIVE, tights.tight(FIVE, BOX)), tights.tight(FIVE, BOX))
         later = moves.moved(THREE, WORLD, SPEEDS, moves.loosening(THREE, TIGHT, [1, 2, 3]))
         self.assertIs(worlds.has_points(THREE, later), True)
+        self.assertIs(leasts.is_lesser_pair(THREE, leasts.lesser_pair(THREE)), True)
+        least = leasts.least_point(LATE, [(-2, 1), (0, 1), (-3, 1)])
+        self.assertIs(kinds.is_in(LATE, [(-2, 1), (0, 1), (-3, 1)], least), True)
+        sight = sights.sights(LEAN, [1])[1]
+        self.assertIs(sights.is_barring(LEAN, [1], sight, sights.barring(LEAN, [1], sight)), True)
+        point = sights.completed(LEAN, LOOSE, [1], ((1, 1),))
+        self.assertIs(kinds.is_in(LEAN, LOOSE, point), True)
+        self.assertIs(sights.is_seen(LEAN, LOOSE, [1], point[:1]), True)
+        self.assertIs(kinds.is_book(sights.seen_kinds(LEAN, [1])), True)
+        sign = wholes.cross(TILTED)
+        self.assertIs(wholes.is_cross(TILTED, sign), True)
+        self.assertIs(kinds.obeys(TILTED, wholes.cross_rules(TILTED, sign), wholes.middle(TILTED, sign)), True)
+        rules, points = wholes.whole_forcing(TILTED)
+        self.assertEqual([kinds.obeys(TILTED, rules[1:], points[0]), kinds.obeys(TILTED, rules, points[0])], [True, False])
+        self.assertEqual(ranges.depth_of(ranges.crowded(9, 3)), 3)
+        self.assertEqual([ranges.meeting_pairs([SOME[at] for at in ranges.apart(SOME)])], [0])
 
 
 class Errors(unittest.TestCase):
@@ -120,8 +139,8 @@ class Errors(unittest.TestCase):
                     with self.subTest(call=call.__name__, name=name, value=value):
                         if value in NO_ERRORS.get((call.__name__, name), []):
                             call(**{**given, name: value})
-                        elif name in ERRORS:
-                            self.check(call, {**given, name: value}, ERRORS[name])
+                        elif error_for(call, name):
+                            self.check(call, {**given, name: value}, error_for(call, name))
                         else:
                             self.assertIs(call(**{**given, name: value}), False)
 
@@ -129,9 +148,9 @@ class Errors(unittest.TestCase):
         for call, given in CALLS:
             names = list(given)
             for at, name in enumerate(names):
-                if name in ERRORS:
+                if error_for(call, name):
                     wrong = {later: "wrong" for later in names[at:]}
-                    self.check(call, {**given, **wrong}, ERRORS[name])
+                    self.check(call, {**given, **wrong}, error_for(call, name))
 
     def test_a_value_for_an_unknown_number_of_unknowns(self):
         """What fits one book does not fit another one."""

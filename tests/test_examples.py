@@ -87,6 +87,36 @@ TIGHTS = """
 [[(0, 1), (0, 1), (3, 1), (4, 1), (5, 1)], 0, False]
 """
 
+LEASTS = """
+>>> from clashsize.leasts import greater_closed, is_lesser_pair, least_point, lesser_closed
+>>> late = [(-1, 0), (0, -1), (1, -1)]
+>>> [lesser_closed(three), greater_closed(three), lesser_closed(late), least_point(late, [(-2, 1), (0, 1), (-3, 1)]), is_lesser_pair(three, ((0, (-1, 1)), ((1, 1), (0, 1)), ((0, 1), (1, 1))))]
+[False, True, True, ((2, 1), (5, 1)), True]
+"""
+
+SIGHTS = """
+>>> from clashsize.sights import is_seen, seen_kinds, seen_rules, seen_size, shown, sights
+>>> lean = [(-1, 1), (0, -1), (1, 1)]
+>>> [sights(lean, [1]), shown(lean, [1], [(0, 1), (1, 1)]), seen_kinds(lean, [1]), seen_rules(lean, [(2, 1), (1, 1), None], [1]), is_seen(lean, [(2, 1), (1, 1), (0, 1)], [1], ((1, 1),)), seen_size(lean, [1])]
+[[[(0, 1), (1, 1)], [(1, 1), (2, 1)]], (-1,), [(-1,), (1,)], [((-1,), (3, 1))], True, 2]
+"""
+
+WHOLES = """
+>>> from clashsize.wholes import cross_rules, is_cross, is_level, middle, rounded, whole_size
+>>> sign = ((1, 0), (0, 1), (3, 2, 1, 0))
+>>> [whole_size(tilted), whole_size(boxes2), whole_size(three), is_cross(tilted, sign), cross_rules(tilted, sign), middle(tilted, sign)]
+[4, 2, 3, True, [(3, (1, 1)), (2, (0, 1)), (1, (0, 1)), (0, (-1, 1))], ((1, 2), (1, 2))]
+>>> [is_level(three), is_level(tilted), rounded(three, [(7, 2), None, (-1, 3)])]
+[True, False, [(3, 1), None, (-1, 1)]]
+"""
+
+RANGES = """
+>>> from clashsize.ranges import crowd_place, depth_of, forced_depth, have_meetings, meeting_pairs, most_pairs, most_without
+>>> some = [(0, 4), (3, 6), (5, 9), (8, 9), (20, 20)]
+>>> [depth_of(some), crowd_place(some), meeting_pairs(some), most_pairs(5, 2), forced_depth(5, 4), forced_depth(5, 5), most_without(some, 2), have_meetings(some, 4, 2), have_meetings(some, 3, 2)]
+[2, 3, 3, 4, 2, 3, 3, True, False]
+"""
+
 
 class Examples(unittest.TestCase):
     def check(self, name, text, number):
@@ -126,10 +156,22 @@ class Examples(unittest.TestCase):
     def test_tights(self):
         self.check("tights", TIGHTS, 8)
 
+    def test_leasts(self):
+        self.check("leasts", LEASTS, 6)
+
+    def test_sights(self):
+        self.check("sights", SIGHTS, 6)
+
+    def test_wholes(self):
+        self.check("wholes", WHOLES, 7)
+
+    def test_ranges(self):
+        self.check("ranges", RANGES, 6)
+
     def test_readme(self):
         readme = Path(__file__).resolve().parent.parent / "README.md"
         # The fences end the examples as blank lines would.
-        self.check("readme", readme.read_text().replace("```", ""), 23)
+        self.check("readme", readme.read_text().replace("```", ""), 33)
 
 
 if __name__ == "__main__":

@@ -7,10 +7,11 @@ from fractions import Fraction
 from clashsize.knots import balances, unit_rays
 from clashsize.ratios import at_most, divided, dot, integers, least, lowest, minus, most, negative, plus, times
 from clashsize.searches import direction_below, point_below
+from clashsize.spans import greatest_size
 from clashsize.tables import common_divisor, determinant, inner, mask_of, opposite, rank_of, reduced
 
 from elimination import slow_meet
-from samples import HUGE, as_fraction, pair_of, random_fraction, slow_dot, slow_rank
+from samples import HUGE, as_fraction, pair_of, random_book, random_fraction, slow_dot, slow_knots, slow_rank
 
 
 class Tables(unittest.TestCase):
@@ -101,6 +102,29 @@ class Balances(unittest.TestCase):
 
     def test_unit_rays(self):
         self.assertEqual([unit_rays(0), unit_rays(1), unit_rays(2)], [[], [[1]], [[1, 0], [0, 1]]])
+
+
+class Spans(unittest.TestCase):
+    def test_told_rows(self):
+        told = [([], 0), ([(1,)], 0), ([(1,), (-1,)], 2), ([(0, 1), (0, -1)], 2), ([(0, 1), (1, 0)], 0),
+                ([(HUGE, 1), (-HUGE, 0), (0, -1)], 3), ([(HUGE, 1), (-HUGE, 0), (0, 1)], 0),
+                ([(1, 0, 0), (-1, 0, 0), (0, 1, 0), (0, -1, 0), (0, 0, 1), (1, 1, 0), (-1, -1, 0)], 3),
+                ([(1, 0, 1), (-1, 0, 0), (0, 1, 0), (0, -1, 0), (0, 0, -1)], 3)]
+        for rows, answer in told:
+            self.assertEqual(greatest_size(rows), answer, rows)
+
+    def test_against_a_look_at_each_set(self):
+        source = random.Random(30)
+        answers = []
+        for unknowns in (1, 2, 3, 4):
+            for count in (2, 4, 6, 9):
+                for _ in range(15):
+                    rows = random_book(source, unknowns, min(count, 2 if unknowns == 1 else 6), source.choice([1, 1, 3]))
+                    # Rows in a plane of one unknown more.
+                    longer = [row + (sum(row),) for row in rows]
+                    answers.append(max([len(knot) for knot in slow_knots(rows)], default=0))
+                    self.assertEqual([greatest_size(rows), greatest_size(longer)], [answers[-1]] * 2, rows)
+        self.assertEqual({0, 2, 3, 4, 5}, set(answers))
 
 
 class Searches(unittest.TestCase):

@@ -61,6 +61,26 @@ INTERFACE = {
         "inside_point": ["book", "world"], "core": ["book", "world"], "dimension": ["book", "world"],
         "is_bounded": ["book", "world"],
     },
+    "clashsize.leasts": {
+        "lesser_closed": ["book"], "greater_closed": ["book"], "lesser_pair": ["book"],
+        "is_lesser_pair": ["book", "value"], "least_point": ["book", "world"],
+    },
+    "clashsize.sights": {
+        "sights": ["book", "hidden"], "shown": ["book", "hidden", "sight"], "seen_kinds": ["book", "hidden"],
+        "seen_rules": ["book", "world", "hidden"], "is_seen": ["book", "world", "hidden", "point"],
+        "completed": ["book", "world", "hidden", "point"], "seen_size": ["book", "hidden"],
+        "barring": ["book", "hidden", "sight"], "is_barring": ["book", "hidden", "sight", "value"],
+    },
+    "clashsize.wholes": {
+        "is_level": ["book"], "whole_size": ["book"], "cross": ["book"], "is_cross": ["book", "value"],
+        "rounded": ["book", "world"], "whole_forcing": ["book"], "cross_rules": ["book", "sign"],
+        "middle": ["book", "sign"],
+    },
+    "clashsize.ranges": {
+        "depth_of": ["ranges"], "crowd_place": ["ranges"], "meeting_pairs": ["ranges"], "most_pairs": ["number", "depth"],
+        "forced_depth": ["number", "pairs"], "crowded": ["number", "depth"], "apart": ["ranges"], "hitting": ["ranges"],
+        "most_without": ["ranges", "number"], "have_meetings": ["ranges", "size", "number"], "fewest_left": ["ranges"],
+    },
 }
 
 

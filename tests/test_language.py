@@ -16,7 +16,8 @@ class Package(unittest.TestCase):
     def test_the_files_are_there(self):
         found = {path.name for path in PACKAGE.glob("*.py")}
         self.assertLessEqual({"__init__.py", "errors.py", "kinds.py", "knots.py", "parts.py", "worlds.py", "families.py",
-                              "changes.py", "clashes.py", "moves.py", "ways.py", "tights.py"}, found)
+                              "changes.py", "clashes.py", "moves.py", "ways.py", "tights.py", "leasts.py", "sights.py",
+                              "wholes.py", "ranges.py"}, found)
 
 
 class Sources(unittest.TestCase):
@@ -65,6 +66,27 @@ class Sources(unittest.TestCase):
             self.check(text, "L8")
         for text in ["X = 1.5\n", "def f(x):\n    return x / 2\n", "def f(x):\n    x /= 2\n"]:
             self.check(text, "L7")
+
+
+    def test_classes(self):
+        for text in ["@cache\ndef f(x):\n    return x\n", "class A:\n    @cached\n    def f(self):\n        return 1\n"]:
+            self.check(text, "L4")
+        for text in ["@dataclasses\nclass A:\n    pass\n", "class A:\n    def __hash__(self):\n        return 1\n"]:
+            self.check(text, "L5")
+        text = "class A:\n    @property\n    def n(self):\n        return 1\n\n    def __len__(self):\n        return 1\n"
+        self.assertEqual(check_source(text), [])
+
+    def test_stars(self):
+        for text in ["def f(x):\n    return list(zip(*g(x)))\n", "def f(x):\n    return f(*x[0])\n",
+                     "def f(x):\n    return f(**g(x))\n"]:
+            self.check(text, "L7")
+        self.assertEqual(check_source("def f(x):\n    return [f(*x), f(*x.rows), f(*[x, 1]), f(**x)]\n"), [])
+
+    def test_generator_expressions(self):
+        for name in ("any", "all", "sum", "sorted", "min", "max"):
+            self.check(f"def f(x):\n    return {name}(y for y in x)\n", "L7")
+            self.assertEqual(check_source(f"def f(x):\n    return {name}([y for y in x])\n"), [])
+        self.assertEqual(check_source("def f(x):\n    return tuple(y for y in x)\n"), [])
 
 
 class Folders(unittest.TestCase):
