@@ -172,6 +172,11 @@ def world_of(book, rules):
     """The world with the least bound of each kind among the rules."""
     check_book(book)
     check_rules(book, rules)
+    return least_bounds(book, rules)
+
+
+def least_bounds(book, rules):
+    """The same for any number of rules, without checks."""
     world = [None] * len(book)
     for number, bound in rules:
         if world[number] is None or at_most(bound, world[number]):

@@ -62,7 +62,7 @@ def seen_rules(book, world, hidden):
         what, bound = _shown_with_bound(book, world, hidden, sight)
         if bound is not None and any(what) and (what not in found or at_most(bound, found[what])):
             found[what] = bound
-    return sorted(found.items())
+    return sorted(list(found.items()))
 
 
 def is_seen(book, world, hidden, point):

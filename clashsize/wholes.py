@@ -43,14 +43,14 @@ def cross(book):
     if len(book[0]) != 2:
         raise TooLarge(2)
     for kind, other in combinations(book, 2):
-        for one, two in _bases_between(kind, other):
+        for one, two in bases_between(kind, other):
             quarters = [_in_quarter(book, one, two, quarter) for quarter in QUARTERS]
             if [] not in quarters:
                 return (one, two, tuple([numbers[0] for numbers in quarters]))
     return None
 
 
-def _bases_between(kind, other):
+def bases_between(kind, other):
     """All bases (a, b) of the whole points with kind . a, kind . b and other . a above 0 and other . b below 0.
 
     Each next one has the sum of a and b in the place of one of them; there is none that is not reached so.
@@ -100,7 +100,7 @@ def _in_quarter(book, one, two, quarter):
 def is_cross(book, value):
     """Whether any value is a cross of the book."""
     check_book(book)
-    if type(value) != tuple or len(value) != 3 or len(book[0]) != 2:
+    if type(value) != tuple or len(book[0]) != 2:
         return False
     if not all([is_integers(item) for item in value]) or [len(item) for item in value] != [2, 2, 4]:
         return False

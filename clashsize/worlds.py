@@ -34,6 +34,12 @@ def broken(book, world):
     return [knot for knot, total in knot_sums(book, world) if total[0] < 0]
 
 
+def breaks_some(ties, world):
+    """Whether a world breaks one of some knots."""
+    sums = [sum_of(knot, world) for knot in ties]
+    return any([total is not None and total[0] < 0 for total in sums])
+
+
 def has_points(book, world):
     """Whether some point is in a world."""
     return broken(book, world) == []

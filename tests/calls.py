@@ -1,9 +1,9 @@
 """Each function of the interface with arguments that it takes, and the error of each parameter."""
 
-from clashsize import changes, clashes, errors, families, kinds, knots, leasts, moves, parts, ranges, sights, tights
-from clashsize import ways, wholes, worlds
+from clashsize import changes, clashes, errors, families, kinds, knots, leasts, moves, parties, parts, ranges, sights
+from clashsize import texts, tights, ways, wholes, worlds
 
-from samples import BOXES2, LEAN, LINE, SIGN, SOME, THREE, TILTED, TWELVE
+from samples import BOXES2, GUESTS, LEAN, LINE, SIGN, SOME, THREE, TILTED, TWELVE
 
 POINT = ((1, 2), (-1, 3))
 WORLD = [(5, 1), None, (1, 2)]
@@ -137,6 +137,16 @@ CALLS = [
     (ranges.most_without, {"ranges": SOME, "number": 2}),
     (ranges.have_meetings, {"ranges": SOME, "size": 4, "number": 2}),
     (ranges.fewest_left, {"ranges": SOME}),
+    (parties.all_meet, {"book": THREE, "parties": GUESTS}),
+    (parties.party_clashes, {"book": THREE, "parties": GUESTS}),
+    (parties.crowds, {"book": THREE, "parties": GUESTS}),
+    (parties.fewest_parties_out, {"book": THREE, "parties": GUESTS}),
+    (parties.meeting_place, {"book": THREE, "parties": GUESTS[1:]}),
+    (parties.combined, {"book": THREE, "parties": GUESTS[1:]}),
+    (texts.format_book, {"book": THREE}),
+    (texts.format_rules, {"book": THREE, "rules": RULES}),
+    (texts.parse_book, {"text": "-1,0 1,0"}),
+    (texts.parse_rules, {"book": THREE, "text": "1:-7/3 0:2"}),
 ]
 
 ERRORS = {
@@ -147,13 +157,16 @@ ERRORS = {
     "fan": errors.InvalidFan, "firmness": errors.InvalidFirmness, "speeds": errors.InvalidSpeeds,
     "time": errors.InvalidFraction, "bound": errors.InvalidFraction, "hidden": errors.InvalidHidden,
     "sight": errors.InvalidSight, "sign": errors.InvalidCross, "ranges": errors.InvalidRanges,
+    "parties": errors.InvalidParties, "text": errors.InvalidText,
     ("arrows", "pairs"): errors.InvalidArrows, ("forced_depth", "pairs"): errors.InvalidNumber,
 }
 
 # Values among the odd ones of the samples that are no wrong ones here.
 NO_ERRORS = {
     ("ring_number", "size"): [10 ** 59], ("fewest_out", "size"): [10 ** 59], ("most_without", "number"): [10 ** 59],
-    ("have_meetings", "size"): [10 ** 59],
+    ("have_meetings", "size"): [10 ** 59], ("parse_book", "text"): ["1,0"], ("parse_rules", "text"): [""],
+    ("all_meet", "parties"): [[[]]], ("party_clashes", "parties"): [[[]]], ("crowds", "parties"): [[[]]],
+    ("fewest_parties_out", "parties"): [[[]]], ("meeting_place", "parties"): [[[]]], ("combined", "parties"): [[[]]],
 }
 
 

@@ -6,6 +6,8 @@ from functools import lru_cache
 from itertools import combinations
 from math import gcd, lcm
 
+from clashsize.board import Board, GuardedCountingBoard
+from clashsize.console import Console
 from clashsize.errors import InvalidBook, InvalidRules, NoKnot
 
 BOXES2 = [(-1, 0), (0, -1), (0, 1), (1, 0)]
@@ -29,6 +31,7 @@ LEAN = [(-1, 1), (0, -1), (1, 1)]
 # A cross of the tilted book.
 SIGN = ((1, 0), (0, 1), (3, 2, 1, 0))
 SOME = [(0, 4), (3, 6), (5, 9), (8, 9), (20, 20)]
+GUESTS = [[(0, (-1, 1))], [(1, (0, 1))], [(2, (0, 1))], [(1, (5, 1)), (2, (5, 1))]]
 DIFFERENCES4 = sorted([tuple([int(at == one) - int(at == two) for at in range(4)])
                        for one in range(4) for two in range(4) if one != two])
 
@@ -49,6 +52,7 @@ ODD_VALUES = [
     [(1, 0), None], [None, (1, 0)], [{}], ({},), (0, True), ("1/2", 1), [(0, 1), [1, 0]],
     [((0, 1), (1, 1))], ([0, 1], [1, 1]), deep(8, 1), deep(8, None), [7] * 1999, (7,) * 1999, [(0, (0, 1))] * 400,
     InvalidBook("a book"), InvalidRules(3), NoKnot("a knot"), [InvalidBook("a book")], (InvalidRules(None),),
+    Board(LINE), GuardedCountingBoard(THREE), Console(), [Board(LINE)], (Board(LINE), Console()), [(0, Board(LINE))],
 ]
 
 

@@ -4,13 +4,14 @@ import copy
 import unittest
 
 from clashsize import clashes, errors, families, kinds, knots, leasts, moves, ranges, sights, tights, ways, wholes, worlds
+from clashsize.board import CountingBoard
 
 from calls import BOX, CALLS, CLASHING, FIVE, KNOT, LATE, LOOSE, NO_ERRORS, POINT, RULES, SPEEDS, TIGHT, WORLD, error_for
-from samples import BOXES2, LEAN, LINE, ODD_VALUES, SOME, THREE, TILTED
+from samples import BOXES2, GUESTS, LEAN, LINE, ODD_VALUES, SOME, THREE, TILTED
 
 TRUTHS = (
     "obeys", "pairs_enough", "has_points", "breaks_alone", "meet", "follows", "same_points", "has_inside",
-    "lesser_closed", "greater_closed", "have_meetings",
+    "lesser_closed", "greater_closed", "have_meetings", "all_meet",
 )
 
 
@@ -143,6 +144,18 @@ class Errors(unittest.TestCase):
                             self.check(call, {**given, name: value}, error_for(call, name))
                         else:
                             self.assertIs(call(**{**given, name: value}), False)
+
+    def test_objects_of_the_package_are_as_before(self):
+        desk = CountingBoard(THREE)
+        desk.add(GUESTS[0])
+        twin = desk.twin()
+        for call, given in CALLS:
+            for name in given:
+                try:
+                    call(**{**given, name: desk})
+                except errors.RuleError:
+                    pass
+                self.assertEqual(desk, twin)
 
     def test_the_first_wrong_parameter_counts(self):
         for call, given in CALLS:

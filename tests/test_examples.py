@@ -4,6 +4,8 @@ import doctest
 import unittest
 from pathlib import Path
 
+from clashsize.errors import RuleError
+
 BOOKS = """
 >>> boxes2 = [(-1, 0), (0, -1), (0, 1), (1, 0)]
 >>> three = [(-1, -1), (0, 1), (1, 0)]
@@ -117,12 +119,56 @@ RANGES = """
 [2, 3, 3, 4, 2, 3, 3, True, False]
 """
 
+PARTIES = """
+>>> from clashsize.parties import all_meet, crowds, fewest_parties_out, party_clashes
+>>> guests = [[(0, (-1, 1))], [(1, (0, 1))], [(2, (0, 1))], [(1, (5, 1)), (2, (5, 1))]]
+>>> [all_meet(three, guests), party_clashes(three, guests), crowds(three, guests), fewest_parties_out(three, guests)]
+[False, [[0, 1, 2]], [[0, 1, 3], [0, 2, 3], [1, 2, 3]], 1]
+"""
+
+BOARD = """
+>>> from clashsize.board import Board, CountingBoard
+>>> desk = CountingBoard(three)
+>>> [desk.add([(0, (-1, 1))]), desk.add([(1, (0, 1))]), desk.is_open, desk.add([(2, (0, 1))]), desk.is_open, desk.remove(1), desk.is_open, desk.undo(), desk.described(), len(desk.twin()), desk == Board(three)]
+[0, 1, True, 2, False, None, True, None, (3, False, 1), 3, False]
+>>> from clashsize.board import GuardedBoard
+>>> desk = GuardedBoard(boxes2)
+>>> [desk.add([(0, (-1, 1))]), desk.add([(1, (0, 1))])]
+[0, 1]
+>>> raised(lambda: desk.add([(3, (0, 1))]))
+raises Clash(parties=[0, 2])
+"""
+
+TEXTS = """
+>>> from clashsize.texts import format_book, format_rules, parse_book, parse_rules
+>>> [format_book(three), parse_book("-1,0 1,0"), format_rules(three, [(0, (-1, 2)), (2, (3, 1))]), parse_rules(three, "1:-7/3")]
+['-1,-1 0,1 1,0', [(-1, 0), (1, 0)], '0:-1/2 2:3', [(1, (-7, 3))]]
+>>> from clashsize.texts import parse_book
+>>> raised(lambda: parse_book("1,0 -1,0"))
+raises InvalidText(place=1)
+"""
+
+CONSOLE = """
+>>> from clashsize.console import Console
+>>> desk = Console()
+>>> [desk.execute(command) for command in ["size", "book -1,-1 0,1 1,0", "size", "whole", "greatest", "add 0:-1", "add 1:0 2:0", "open", "undo", "open", "guests", "free", "knots"]]
+['2', 'ok', '3', '3', '0*1 1*1 2*1', '0', '1', 'no', 'ok', 'yes', '1', 'none', '1']
+"""
+
+
+def raised(call):
+    """Prints the error that a call raises as the document writes it."""
+    try:
+        call()
+    except RuleError as error:
+        print(f"raises {type(error).__name__}({', '.join([f'{name}={value}' for name, value in vars(error).items()])})")
+
 
 class Examples(unittest.TestCase):
     def check(self, name, text, number):
         """All examples of a text hold, and none was passed over."""
         told = []
-        test = doctest.DocTestParser().get_doctest(BOOKS + "\n" + text, {}, name, None, 0)
+        test = doctest.DocTestParser().get_doctest(BOOKS + "\n" + text, {"raised": raised}, name, None, 0)
         results = doctest.DocTestRunner(verbose=False).run(test, out=told.append)
         self.assertEqual((results.failed, results.attempted), (0, number), "".join(told))
 
@@ -168,10 +214,22 @@ class Examples(unittest.TestCase):
     def test_ranges(self):
         self.check("ranges", RANGES, 6)
 
+    def test_parties(self):
+        self.check("parties", PARTIES, 6)
+
+    def test_board(self):
+        self.check("board", BOARD, 10)
+
+    def test_texts(self):
+        self.check("texts", TEXTS, 7)
+
+    def test_console(self):
+        self.check("console", CONSOLE, 6)
+
     def test_readme(self):
         readme = Path(__file__).resolve().parent.parent / "README.md"
         # The fences end the examples as blank lines would.
-        self.check("readme", readme.read_text().replace("```", ""), 33)
+        self.check("readme", readme.read_text().replace("```", ""), 46)
 
 
 if __name__ == "__main__":

@@ -81,6 +81,30 @@ INTERFACE = {
         "forced_depth": ["number", "pairs"], "crowded": ["number", "depth"], "apart": ["ranges"], "hitting": ["ranges"],
         "most_without": ["ranges", "number"], "have_meetings": ["ranges", "size", "number"], "fewest_left": ["ranges"],
     },
+    "clashsize.parties": {
+        "all_meet": ["book", "parties"], "party_clashes": ["book", "parties"], "crowds": ["book", "parties"],
+        "fewest_parties_out": ["book", "parties"], "meeting_place": ["book", "parties"], "combined": ["book", "parties"],
+    },
+    "clashsize.board": {
+        "Board": ["book"], "GuardedBoard": ["book"], "CountingBoard": ["book"], "GuardedCountingBoard": ["book"],
+    },
+    "clashsize.texts": {
+        "format_book": ["book"], "format_rules": ["book", "rules"], "parse_book": ["text"], "parse_rules": ["book", "text"],
+    },
+    "clashsize.console": {"Console": []},
+}
+# The methods and properties of each class, all of them in the class itself; None stands for a property.
+METHODS = {
+    ("clashsize.board", "Board"): {
+        "__init__": ["book"], "add": ["party"], "remove": ["number"], "exchange": ["number", "party"], "undo": [],
+        "twin": [], "described": [], "guests": None, "is_open": None, "calls": None, "__len__": [], "__eq__": ["other"],
+    },
+    ("clashsize.board", "GuardedBoard"): {
+        "__init__": ["book"], "add": ["party"], "exchange": ["number", "party"], "twin": [], "described": [],
+    },
+    ("clashsize.board", "CountingBoard"): {"__init__": ["book"], "twin": [], "described": [], "closings": None},
+    ("clashsize.board", "GuardedCountingBoard"): {"__init__": ["book"], "twin": [], "described": []},
+    ("clashsize.console", "Console"): {"__init__": [], "execute": ["command"]},
 }
 
 
@@ -98,12 +122,24 @@ class Interface(unittest.TestCase):
                 if parameters is not None:
                     found = inspect.signature(getattr(module, member)).parameters
                     self.assertEqual(list(found), parameters, member)
-                    self.assertEqual({item.kind for item in found.values()},
-                                     {inspect.Parameter.POSITIONAL_OR_KEYWORD}, member)
-                    self.assertEqual({item.default for item in found.values()}, {inspect.Parameter.empty}, member)
+                    self.assertLessEqual({item.kind for item in found.values()},
+                                         {inspect.Parameter.POSITIONAL_OR_KEYWORD}, member)
+                    self.assertLessEqual({item.default for item in found.values()}, {inspect.Parameter.empty}, member)
+
+    def test_methods_stand_in_their_classes(self):
+        for (name, member), methods in METHODS.items():
+            own = vars(getattr(importlib.import_module(name), member))
+            for method, parameters in methods.items():
+                if parameters is None:
+                    self.assertIs(type(own[method]), property, (member, method))
+                else:
+                    found = inspect.signature(own[method]).parameters
+                    self.assertEqual(list(found)[1:], parameters, (member, method))
+                    self.assertEqual({item.default for item in found.values()}, {inspect.Parameter.empty})
 
     def test_each_function_has_a_call_in_the_tests(self):
-        listed = {(name, member) for name, members in INTERFACE.items() for member in members if name != "clashsize.errors"}
+        listed = {(name, member) for name, members in INTERFACE.items() for member in members
+                  if name not in ("clashsize.errors", "clashsize.board", "clashsize.console")}
         self.assertEqual({(call.__module__, call.__name__) for call, _ in CALLS}, listed)
         for call, given in CALLS:
             self.assertEqual(list(given), INTERFACE[call.__module__][call.__name__])

@@ -17,7 +17,7 @@ class Package(unittest.TestCase):
         found = {path.name for path in PACKAGE.glob("*.py")}
         self.assertLessEqual({"__init__.py", "errors.py", "kinds.py", "knots.py", "parts.py", "worlds.py", "families.py",
                               "changes.py", "clashes.py", "moves.py", "ways.py", "tights.py", "leasts.py", "sights.py",
-                              "wholes.py", "ranges.py"}, found)
+                              "wholes.py", "ranges.py", "parties.py", "board.py", "texts.py", "console.py"}, found)
 
 
 class Sources(unittest.TestCase):

@@ -251,7 +251,8 @@ class Wrong(unittest.TestCase):
         wrong = [0, -1, None, True, "1", (1,), [1], 10 ** 59 * -1]
         for number in wrong + [GREAT + 1, 10 ** 59]:
             for call in (lambda: most_pairs(number, None), lambda: most_pairs(1, number), lambda: forced_depth(number, None),
-                         lambda: crowded(number, None), lambda: crowded(1, number)):
+                         lambda: crowded(number, None), lambda: crowded(1, number), lambda: most_pairs(number, 1),
+                         lambda: forced_depth(number, 0), lambda: crowded(number, 1)):
                 with self.assertRaises(InvalidNumber, msg=number):
                     call()
         for number in wrong:

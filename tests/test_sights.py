@@ -411,7 +411,7 @@ class Wrong(unittest.TestCase):
                     call(THREE, self.EMPTY, [0], point)
 
     def test_points_of_three_unknowns(self):
-        for point in [((0, 1),) * 5, ((0, 1),) * 2, ((0, 1),) * 4]:
+        for point in [((0, 1),) * 5, ((0, 1),) * 2, ((0, 1),) * 4, ((0, 1), (0, 2), (0, 1)), ((0, 1), (0, 1), None)]:
             with self.assertRaises(InvalidPoint):
                 is_seen(BOXES5, [None] * 10, [0, 4], point)
         self.assertIs(is_seen(BOXES5, [None] * 10, [0, 4], ((0, 1),) * 3), True)

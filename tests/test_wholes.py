@@ -4,13 +4,13 @@ import random
 import unittest
 from fractions import Fraction
 from itertools import combinations, permutations
-from math import ceil, floor, gcd
+from math import ceil, floor
 
 from clashsize.errors import InvalidBook, InvalidCross, InvalidWorld, NoKnot, TooLarge, Undecided
 from clashsize.families import boxes, differences
 from clashsize.kinds import is_book, is_in, is_point, is_rules, is_world, mixed, obeys, opposites
 from clashsize.knots import clash_size
-from clashsize.wholes import cross, cross_rules, is_cross, is_level, middle, rounded, whole_forcing, whole_size
+from clashsize.wholes import bases_between, cross, cross_rules, is_cross, is_level, middle, rounded, whole_forcing, whole_size
 
 from elimination import limits, rule_rows, slow_meet
 from samples import BOOKS, BOXES2, BOXES5, CURVE, DIFFERENCES4, HUGE, LEAN, LINE, ODD_VALUES, ONE_WAY, QUARTER, SIGN, SIX
@@ -213,6 +213,22 @@ class Crosses(unittest.TestCase):
             self.assertEqual(whole_size(book), clash_size(book) if sign is None else 4)
         self.assertGreater(found, 5)
 
+    def test_all_bases_between_two_kinds(self):
+        source = random.Random(87)
+        numbers = []
+        for _ in range(60):
+            kind, other = random_book(source, 2, 2, source.choice([2, 4, 7]))
+            reach = max([abs(item) for item in kind + other])
+            points = [(x, y) for x in range(-reach, reach + 1) for y in range(-reach, reach + 1)]
+            ahead = [point for point in points if slow_product(kind, point) > 0 and slow_product(other, point) > 0]
+            behind = [point for point in points if slow_product(kind, point) > 0 > slow_product(other, point)]
+            answer = [(one, two) for one in ahead for two in behind if abs(one[0] * two[1] - one[1] * two[0]) == 1]
+            found = bases_between(kind, other)
+            numbers.append(len(found))
+            self.assertEqual(sorted(found), sorted(answer), (kind, other))
+        self.assertTrue(0 in numbers and max(numbers) > 6)
+        self.assertEqual(bases_between((1, -3), (-1, 3)), [])
+
     def test_one_cross_alone(self):
         """Four kinds that only few bases divide."""
         for matrix in [((1, 0), (0, 1)), ((3, 2), (4, 3)), ((5, 3), (3, 2)), ((1, 19), (0, 1)), ((9, 10), (8, 9))]:
@@ -252,6 +268,10 @@ class Crosses(unittest.TestCase):
             for call in (cross_rules, middle):
                 with self.assertRaises(InvalidCross):
                     call(book, SIGN)
+        for ahead, behind in [((), (0,)), ((0,), ()), ((), (0, 0, 0))]:
+            self.assertIs(is_cross([ahead + kind + behind for kind in TILTED], SIGN), False)
+            wide = (ahead + SIGN[0] + behind, ahead + SIGN[1] + behind, SIGN[2])
+            self.assertIs(is_cross([ahead + kind + behind for kind in TILTED], wide), False)
 
     def test_any_value(self):
         for value in ODD_VALUES:
