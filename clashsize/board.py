@@ -162,7 +162,7 @@ class CountingBoard(Board):
 
 
 class GuardedCountingBoard(GuardedBoard, CountingBoard):
-    """A board whose parties always meet, with the counting that never counts a call."""
+    """A board whose parties always meet, and that tells its closings, of which there never are any."""
 
     def __init__(self, book):
         super().__init__(book)
